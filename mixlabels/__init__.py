@@ -1,0 +1,1 @@
+"""What labels can know about mixtures."""

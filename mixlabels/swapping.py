@@ -64,8 +64,9 @@ def joining_steps(k, recipe, deep):
     """Swaps and joins after which no k ingredients at this depth are alike."""
     blends = [place for place in level_places(recipe, deep - 1) if mark_at(recipe, place) == BLEND]
     rows = [[mark_at(recipe, place + (at,)) for at in range(k)] for place in blends]
+    marks = sorted(set([mark for row in rows for mark in row if mark != BLEND]))
     steps = []
-    for ingredient in sorted(set([mark for row in rows for mark in row if mark != BLEND])):
+    for ingredient in marks:
         many = sum([row.count(ingredient) for row in rows])
         for _ in range(many // k):
             best = fullest(rows, ingredient)

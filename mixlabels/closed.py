@@ -2,12 +2,13 @@
 
 from mixlabels.errors import InvalidNaming
 from mixlabels.tables import blend_label
-from mixlabels.things import are_below, first_not_below, is_ascending, is_sequence, subsets, tuples_of
+from mixlabels.things import are_below, first_not_below, is_sequence, subsets, tuples_of
 
 
 def is_closed(table, value):
-    if not isinstance(value, tuple) or not are_below(value, table.labels) or not is_ascending(value):
+    if not isinstance(value, tuple) or not are_below(value, table.labels):
         return False
+    # A closure is ascending, so no other tuple equals one.
     return spread(table, value) == value
 
 

@@ -38,8 +38,6 @@ def places_left(k, levels):
         if at > 0:
             free = free * k
         free -= len(level)
-        if free < 0:
-            return -1
     return free
 
 

@@ -2,7 +2,6 @@
 
 from mixlabels.errors import Refused
 from mixlabels.leaves import leaves
-from mixlabels.mixtures import mixture_of
 from mixlabels.recipes import DEEPEST, MOST_INGREDIENTS, depth, is_place, part, placed, standing
 from mixlabels.swapping import joining_steps, level_swaps
 from mixlabels.things import is_sequence
@@ -89,17 +88,11 @@ def swaps_between(one, other):
 
 
 def steps_between(k, one, other):
-    if not are_alike(k, one, other):
-        raise Refused(0)
+    # Of the fewest ingredients, recipes have the same leaves exactly if their mixtures are the same.
     ahead = steps_to_fewest(k, one)
     back = steps_to_fewest(k, other)
     swaps = swaps_between(behind_all(k, one, ahead), behind_all(k, other, back))
     return tuple(ahead) + swaps + tuple(undone(back))
-
-
-def are_alike(k, one, other):
-    many = 1 + max([ingredient for _, ingredient in standing(one) + standing(other)])
-    return mixture_of(k, many, one) == mixture_of(k, many, other)
 
 
 def steps_to_fewest(k, recipe):

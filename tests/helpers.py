@@ -10,7 +10,7 @@ from mixlabels.tables import Table
 
 # Values of every other kind; none of them is a number, a label, a place or a recipe.
 ODD = (
-    None, True, False, "", "0", "(0 1)", b"", b"\x00\x01", -1, -7, 10 ** 30, 1.0, 0.0, [], {}, {0: 0}, set(), [0],
+    None, True, False, "", "0", "(0 1)", b"", b"\x00\x01", -1, -7, 10 ** 30, 1.0, 0.0, (), [], {}, {0: 0}, set(), [0],
     [0, 1], [[0]], ["a"], [None], {"a": 1}, ("a", "b"), ((), ()), ((((0,),),),), (None,), (True, False), object(),
     len, Table,
 )

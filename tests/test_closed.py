@@ -65,7 +65,7 @@ class ClosedTest(unittest.TestCase):
     def test_is_closed_any_value(self):
         table = least_table(2, 3)
         wrong = [(1, 0), (0, 0), [0, 1], [], (0, 3), (True,), (0.0,), (0, 1.0), ((0,),), deep_value(300), "01", (-1, 0)]
-        for value in wrong + [value for value in ODD]:
+        for value in wrong + [value for value in ODD if value != ()]:
             self.assertIs(is_closed(table, value), False, value)
 
     def test_refused(self):

@@ -123,10 +123,17 @@ class FaultTest(unittest.TestCase):
             ("order", (0, 1)), ("order", (0, 1), False), ("order", (0, 1), -1), ("order", (0, 1, 0), 0),
             ("order", (False, True), 0), ("order", "01", 0), ("order", None, 0), ("grid", None), ("grid", ()),
             ("grid", ((0, 1),)), ("grid", ((0, 1), (0,))), ("grid", ((0, 2), (0, 1))), ("grid", (None, (0, 1))),
-            ("order", (0, 1), 0, 0), (b"same", 0), ("Same", 0), (0, 0), deep_value(400), ("same", deep_value(400)),
+            ("order", (0, 1), 0, 0), (b"same", 0), ("Same", 0), (0, 0), ("grid",), ("order",), deep_value(400), ("same", deep_value(400)),
         ]
         for value in wrong + list(ODD):
             self.assertIs(is_fault(table, value), False, value)
+
+    def test_words_of_faults(self):
+        table = calm_table(generator(8), 2, 12)
+        word, rows = fault(table)
+        self.assertTrue(is_fault(table, (word, rows)))
+        for value in (("rows", rows), ("grid", rows, 0), ("same", rows), ("order", rows), ("grid", rows + rows)):
+            self.assertIs(is_fault(table, value), False)
 
     def test_columns(self):
         self.assertEqual(columns(rows=((0, 1), (2, 3))), ((0, 2), (1, 3)))

@@ -4,7 +4,7 @@ import unittest
 
 from mixlabels.recipes import is_recipe
 from mixlabels.recipetexts import read_recipe, recipe_text
-from tests.helpers import ODD, SIZES, all_recipes, error_of, generator, random_recipe
+from tests.helpers import ODD, SIZES, all_recipes, error_of, generator, grown_recipe, random_recipe
 from tests.test_recipes import chain
 
 
@@ -95,6 +95,18 @@ class RecipeTextTest(unittest.TestCase):
             self.assertEqual(error_of(read_recipe, k, 1, text), ("InvalidText", 12))
             self.assertEqual(error_of(read_recipe, k, 1, "(" * 2000), ("InvalidText", 12))
             self.assertEqual(error_of(read_recipe, k, 1, "(" * 12), ("InvalidText", 12))
+
+    def test_2000_ingredients_and_more(self):
+        rnd = generator(3)
+        for k in SIZES:
+            most = 2000 - (2000 - 1) % (k - 1)
+            recipe = grown_recipe(rnd, k, 3, most)
+            self.assertEqual(read_recipe(k, 3, recipe_text(recipe)), recipe)
+            text = recipe_text(grown_recipe(rnd, k, 3, most + k - 1))
+            # With this blend any recipe would have too many ingredients.
+            blends = [at for at, sign in enumerate(text) if sign == "("]
+            wrong = blends[(most - 1) // (k - 1)]
+            self.assertEqual(error_of(read_recipe, k, 3, text), ("InvalidText", wrong))
 
     def test_no_strings(self):
         for value in ODD + (["0"], ("0",)):

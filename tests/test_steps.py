@@ -1,5 +1,6 @@
 """Points 10 and 11: steps between recipes."""
 
+import itertools
 import unittest
 
 from mixlabels.leaves import fewest, leaves, recipe_of, recipe_with
@@ -110,6 +111,9 @@ class SteppedTest(unittest.TestCase):
             self.assertEqual(error_of(stepped, k, recipe, [("split", deepest)]), ("Refused", 0))
             self.assertEqual(error_of(stepped, k, recipe, [("split", ())]), ("Refused", 0))
             self.assertIsNone(error_of(stepped, k, recipe, [("split", (1,))]))
+            short = chain(k, 11)
+            deepest = max((place for place, _ in walk(short)), key=len)
+            self.assertEqual(depth(stepped(k, short, [("split", deepest)])), 12)
         half = nested(9, (0, 1))
         self.assertEqual(len(ingredient_row(stepped(2, (half, 0), [("join", (0, 0)), ("swap", (0,), (1,))]))), 769)
         self.assertEqual(error_of(stepped, 2, half, [("split", ())]), ("Refused", 0))
@@ -117,6 +121,24 @@ class SteppedTest(unittest.TestCase):
         self.assertEqual(len(ingredient_row(grown)), 2000)
         place = max((place for place, here in walk(grown) if not isinstance(here, tuple)), key=len)
         self.assertEqual(error_of(stepped, 2, grown, [("split", place)]), ("Refused", 0))
+
+
+    def test_2000_ingredients_and_more(self):
+        rnd = generator(9)
+        for k in SIZES:
+            most = 2000 - (2000 - 1) % (k - 1)
+            grown = grown_recipe(rnd, k, 3, most - (k - 1), 11)
+            places = [place for place, here in walk(grown) if not isinstance(here, tuple)]
+            done = stepped(k, grown, [("split", places[0])])
+            self.assertEqual(len(ingredient_row(done)), most)
+            self.assertEqual(error_of(stepped, k, done, [("split", places[-1])]), ("Refused", 0))
+            for many, told in ((most - k * (k - 1), None), (most - (k - 1) * (k - 1), ("Refused", 0))):
+                grown = grown_recipe(rnd, k, 3, many, 11)
+                blends = [place for place, here in walk(grown) if here in BLENDS[k]]
+                self.assertEqual(error_of(stepped, k, grown, [("split", blends[0])]), told)
+
+
+BLENDS = {k: list(itertools.product(range(3), repeat=k)) for k in SIZES}
 
 
 class SwapsBetweenTest(unittest.TestCase):

@@ -17,7 +17,10 @@ class Chain:
         self.depth = depth
         self.start = start
         self.goal = goal
-        self.jumps = tuple(jumps_between(self))
+        have = counts_at(k, start, depth)
+        want = counts_at(k, goal, depth)
+        # Alike remainders: each difference is made up of whole units.
+        self.jumps = jumps_of([(have[i] - want[i]) // modulus for i in range(len(have))])
         self.length = sum([many for _, _, many in self.jumps])
 
     def mixture_after(self, index):
@@ -43,14 +46,12 @@ class Chain:
         return self.jumps[at][:2]
 
 
-def jumps_between(chain):
-    have = counts_at(chain.k, chain.start, chain.depth)
-    want = counts_at(chain.k, chain.goal, chain.depth)
-    # Alike remainders: each difference is made up of whole units.
-    over = [(have[i] - want[i]) // chain.modulus for i in range(len(have))]
+def jumps_of(units):
+    """The jumps that take away the units of which there are too many, and add those that lack."""
+    over = list(units)
     jumps = []
     a, b = 0, 0
-    while any([units > 0 for units in over]):
+    while any([count > 0 for count in over]):
         while over[a] <= 0:
             a += 1
         while over[b] >= 0:
@@ -59,4 +60,4 @@ def jumps_between(chain):
         over[a] -= many
         over[b] += many
         jumps.append((a, b, many))
-    return jumps
+    return tuple(jumps)

@@ -32,9 +32,10 @@ def is_story(table, naming, value):
 def is_plan(k, ingredients, value):
     """Whether any value is a plan, tuples throughout."""
     try:
-        return checked_plan(k, ingredients, value) == value
+        checked = checked_plan(k, ingredients, value)
     except InvalidRecipe:
         return False
+    return checked == value
 
 
 def story(table, naming, one, other, index):

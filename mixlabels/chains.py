@@ -10,7 +10,8 @@ class Chain:
     """Leads from one mixture to another of the same case by moves of modulus / k ** depth."""
 
     def __init__(self, k, modulus, depth, start, goal):
-        if len(start[1]) != len(goal[1]) or case_of(k, start, modulus) != case_of(k, goal, modulus):
+        # With another number of ingredients the case is another one, too.
+        if case_of(k, start, modulus) != case_of(k, goal, modulus):
             raise InvalidPair(3)
         self.k = k
         self.modulus = modulus

@@ -2,13 +2,13 @@
 
 from mixlabels.arithmetic import power
 from mixlabels.chains import Chain
-from mixlabels.errors import InvalidRecipe, Refused
+from mixlabels.errors import InvalidRecipe
 from mixlabels.leaves import digit_leaves, levels_of
 from mixlabels.lines import last_number, line_rows, shift, shift_modulus
 from mixlabels.mixtures import contained, counts_at
 from mixlabels.plans import checked_plan, plan_label, plan_mixture, row_number
 from mixlabels.tasting import checked_naming
-from mixlabels.things import is_below, is_tuple
+from mixlabels.things import is_tuple
 
 
 def path(table, naming, one, other):
@@ -40,8 +40,6 @@ def is_plan(k, ingredients, value):
 
 def story(table, naming, one, other, index):
     chain = path(table, naming, one, other)
-    if not is_below(index, chain.length):
-        raise Refused(0)
     a, b = chain.jump_at(index)
     start, period = shift(table, naming)
     mixture = chain.mixture_after(index)

@@ -63,16 +63,13 @@ def counts_after(k, modulus, case, depth, weights, moves):
 
 def moves_to_bound(k, modulus, case, depth, weights, bound):
     """After how many moves, from 1 on, the bound is first reached at this depth, or None."""
-    units = units_left(k, modulus, case, depth)
-    if units < 1:
-        return None
     i, j = least_and_greatest(case, weights)
     counts = counts_after(k, modulus, case, depth, weights, 0)
     top, bottom = bound
     lack = top * power(k, depth) - bottom * sum([weights[at] * count for at, count in enumerate(counts)])
     gain = bottom * modulus * (weights[j] - weights[i])
     moves = (lack + gain - 1) // gain
-    if not 1 <= moves <= units:
+    if not 1 <= moves <= units_left(k, modulus, case, depth):
         return None
     return moves
 

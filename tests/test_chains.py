@@ -187,6 +187,15 @@ class BoundTest(unittest.TestCase):
                 for case in all_cases(2, moduli_of(k, 30)[-1]):
                     self.check(k, moduli_of(k, 30)[-1], case, (0, 1), bound)
 
+    def test_all_small_bounds(self):
+        for k in SIZES:
+            for d in moduli_of(k, 7):
+                for case in all_cases(3, d)[::3]:
+                    for great in range(1, 6):
+                        for top in range(-1, 2 * great + 2):
+                            self.check(k, d, case, (0, great, great), made(top, 2))
+                            self.check(k, d, case, (great, 0, 1), made(top, 2))
+
     def test_edges(self):
         both, one = ((0, 1), (0, 0)), ((1,), (0, 0))
         self.assertEqual(on_case(2, 1, both, (1, 1), (1, 1)), ("all",))

@@ -184,6 +184,17 @@ class ModuliTest(unittest.TestCase):
             self.assertEqual(case_of(k, one, modulus), case_of(k, other, modulus))
             self.assertNotEqual(oracle.mixture_answer(one), oracle.mixture_answer(other))
 
+    def test_one_case_apart(self):
+        rnd = generator(8)
+        for k, m, d in ((2, 2, 9), (2, 2, 15), (2, 3, 9), (5, 3, 4), (5, 4, 4), (3, 2, 8), (4, 3, 9), (3, 3, 10)):
+            cases = all_cases(m, d)
+            for at in rnd.sample(range(len(cases)), min(len(cases), 12)):
+                oracle = Oracle(k, m, d, [int(other == at) for other in range(len(cases))])
+                settling = settling_modulus(oracle)
+                self.assertEqual(settling, d if len(cases[at][0]) > 1 else 1)
+                for modulus in moduli_of(k, 30):
+                    self.check(rnd, oracle, modulus, modulus % settling == 0)
+
     def test_no_modulus(self):
         oracle = Oracle(2, 2, 3, list(range(5)))
         for value in ODD + (0, 2, 4, 31, 33, 997, 3.0):

@@ -3,6 +3,15 @@
 from math import gcd
 
 
+def sign(number):
+    """-1, 0 or 1 as the number is below 0, 0 or above it."""
+    if number < 0:
+        return -1
+    if number > 0:
+        return 1
+    return 0
+
+
 def power(base, exponent):
     found = 1
     square = base

@@ -1,0 +1,100 @@
+"""Integer equations, solved in integers divided by powers of k."""
+
+from math import gcd
+
+from mixlabels.ratios import less, made, times
+
+
+class Echelon:
+    """Integer equations whose columns are brought, by exchanges and differences of columns, into steps."""
+
+    def __init__(self, rows, many):
+        self.rows = [list(row) for row in rows]
+        # How the new unknowns tell the old ones, and the other way round.
+        self.columns = unit_rows(many)
+        self.back = unit_rows(many)
+        # For each equation the new unknown that it is the first one to tell, or None.
+        self.steps = []
+        self.done = 0
+        for at in range(len(self.rows)):
+            self.steps.append(self.step(at))
+
+    def step(self, at):
+        while True:
+            left = [(abs(value), c) for c, value in enumerate(self.rows[at]) if c >= self.done and value != 0]
+            if len(left) == 0:
+                return None
+            least = min(left)[1]
+            if len(left) == 1:
+                self.exchange(least, self.done)
+                self.done += 1
+                return self.done - 1
+            for _, c in left:
+                if c != least:
+                    self.take(c, least, self.rows[at][c] // self.rows[at][least])
+
+    def exchange(self, one, other):
+        for row in self.rows + self.columns:
+            row[one], row[other] = row[other], row[one]
+        self.back[one], self.back[other] = self.back[other], self.back[one]
+
+    def take(self, c, least, many):
+        """Takes the column with the least entry from another one, so many times."""
+        for row in self.rows + self.columns:
+            row[c] -= many * row[least]
+        self.back[least] = [self.back[least][i] + many * value for i, value in enumerate(self.back[c])]
+
+    def solved(self, k, sums):
+        """The new unknowns that the equations with these fractions as sums tell, or None if there are no such ones."""
+        found = []
+        for at, row in enumerate(self.rows):
+            left = sums[at]
+            for c, value in enumerate(found):
+                left = less(left, times((row[c], 1), value))
+            step = self.steps[at]
+            if step is None:
+                if left[0] != 0:
+                    return None
+            else:
+                value = made(left[0], left[1] * row[step])
+                if not divides_power(k, value[1]):
+                    return None
+                found.append(value)
+        return found
+
+
+def unit_rows(many):
+    return [[1 if i == j else 0 for j in range(many)] for i in range(many)]
+
+
+def divides_power(k, number):
+    """Whether a number divides some power of k."""
+    left = number
+    both = gcd(left, k)
+    while both > 1:
+        left = left // both
+        both = gcd(left, k)
+    return left == 1
+
+
+def determinant(rows):
+    """That of an integer matrix with few rows."""
+    if len(rows) == 0:
+        return 1
+    total = 0
+    sign = 1
+    for c, value in enumerate(rows[0]):
+        if value != 0:
+            total += sign * value * determinant([row[:c] + row[c + 1:] for row in rows[1:]])
+        sign = -sign
+    return total
+
+
+def common_zero(rows, many):
+    """The numbers, but for a factor, at which these many - 1 linear forms are 0; all 0 if they tell too little."""
+    found = []
+    sign = 1
+    for c in range(many):
+        found.append(sign * determinant([row[:c] + row[c + 1:] for row in rows]))
+        sign = -sign
+    return found

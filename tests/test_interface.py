@@ -50,6 +50,40 @@ INTERFACE = {
     "questions": "answer(k,question,mixture) checked_question(k,ingredients,value) "
                  "comparisons(k,ingredients,question) question_modulus(k,ingredients,question)",
     "closed": "is_closed(table,value) closure(table,labels) closed_sets(table) generators(table,labels)",
+    "parting": "is_parting(table,naming,question,value) parting_story(table,naming,question,one,other) "
+               "refutation(table,naming,question) more_story(table,naming,i,j)",
+    "knots": "knots(table,naming,recipe) pumped(table,naming,recipe,outer,inner,times) untied(table,naming,recipe)",
+    "wheels": "labels_in(table,a) wheels(table) wheel_of(table,a) wheel_sum(table,o,a,b) many_times(table,o,a,n) "
+              "exponent(table,o) table_modulus(table)",
+    "lifting": "wheel_joins(table) lift(table,a,b) mixture_label(table,naming,mixture) case_label(table,naming,value)",
+    "forms": "Form(k,sums,joins,maps) form_of(table) form_table(form) renamed(table,names)",
+    "alike": "likeness(one,other) symmetry_count(table) kinds(k,labels) faithful_count(k,labels)",
+    "patterns": "pattern(k,comparisons,mixture) patterns(k,comparisons,modulus,case)",
+    "deciding": "failing(k,ingredients,question) oracle_of(k,ingredients,question) "
+                "plain_question(k,ingredients,question) settled_sets(k,ingredients,question) "
+                "case_answers(k,ingredients,question,modulus) parting_mixtures(k,ingredients,question,modulus) "
+                "same_answers(k,ingredients,one,other)",
+    "trails": "is_trail(oracle,value) case_after(oracle,case,trail) parting_trail(oracle,one,other)",
+    "least": "classes(oracle) least_size(oracle) least_answers(oracle) least_table(oracle) least_label(oracle,mixture)",
+    "lower": "lower_paper(oracle) is_lower_paper(oracle,n,value)",
+    "readings": "reading(oracle,table,naming) is_mistake(oracle,table,naming,value)",
+    "leastforms": "settled_set(oracle,contained) periods(oracle,contained) least_form(oracle)",
+    "leastsizes": "remainder_oracle(k,weights,modulus,value) remainder_size(weights,modulus,value) "
+                  "among_oracle(k,ingredients,some,least) among_size(ingredients,some,least)",
+    "rising": "fall(table) is_fall(table,value)",
+    "ladders": "leader(priorities,x,y) ladder_table(k,priorities)",
+    "outlines": "outline_for(priorities) outline_of(table) list_count(outline) outline_count(n) nth_outline(n,at) "
+                "outline_index(outline)",
+    "wishes": "wished_count(n,wishes) nth_wished(n,wishes,at) leaders(n,wishes,x,y) wish_evidence(n,wishes) "
+              "is_wish_evidence(n,wishes,value)",
+    "climbing": "excess(one,other) sway(outline) outline_of_sway(numbers) greatest_below(one,other) "
+                "least_above(one,other) just_above(outline) just_below(outline) climb(one,other)",
+    "rankings": "rankings(table) ranking_evidence(table) is_ranking_evidence(table,value)",
+    "prices": "checked_prices(table,prices) gain(table,prices) loss(table,prices) excess(table,prices) "
+              "circle(table,a,b)",
+    "costs": "costs(table,prices) is_costs(table,prices,value) cheapest_recipe(table,prices,label)",
+    "trades": "is_trade(table,stock,value) after(table,stock,trade)",
+    "worth": "worth(table,stock,prices) is_worth(table,stock,prices,value) near_trade(table,stock,prices,gap)",
 }
 METHODS = {
     Table: {"blend": "cups"},

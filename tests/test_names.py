@@ -1,0 +1,161 @@
+"""Arguments can be passed by their names, in any order; points 1 and 5 to 60."""
+
+import importlib
+import unittest
+
+from mixlabels.chains import Chain
+from mixlabels.forms import Form
+from mixlabels.oracles import Oracle
+from mixlabels.tables import Table
+from mixlabels.turns import Search
+from tests.helpers import SIZES, least_table
+from tests.test_interface import INTERFACE, METHODS
+
+
+def samples(k):
+    """For each function and class its arguments, from left to right."""
+    table, naming, pure = least_table(k, 3), (2, 0), (0,) * (k - 1)
+    blend, other = (0,) * (k - 1) + (1,), (1,) + (0,) * (k - 1)
+    mixture = (1, (k - 1, 1))
+    fine, case = (2, (k * k - 1, 1)), ((0, 1), (0, 0))
+    oracle = Oracle(k, 2, 1, [1, 0, 0])
+    question = ("or", ("has", 1), ("rest", k + 1, (1, 0), 1))
+    weights, plan = (2, 0), ((blend,), 2)
+    chain = Chain(k, 1, 2, mixture, fine)
+    rows = ((0,) * k,) * (k - 1) + ((1,) * k,)
+    throw = ((0,) * k, (1, k))
+    trade = ((throw,), 2, (throw,), (throw,))
+    return {
+        "ratios": [((1, 2),), (2, 4), ((1, 2), (1, 3)), ((1, 2), (1, 3)), ((1, 2), (1, 3)), ((1, 2), (1, 3))],
+        "recipes": [(k,), (k,), (k, 2, blend), (k, 2, blend), (blend,), (blend,), (blend, (k - 1,)), (blend, (0,), 1)],
+        "mixtures": [
+            (k, 2, mixture), (k, 1, (k - 1, 1)), (k, 2, blend), (k, [mixture] * k), (mixture,), (k, mixture, 1),
+            (k, mixture, 2), (k, k + 1), (k, mixture, k + 1),
+        ],
+        "leaves": [
+            (blend,), (k, [(1, 0)] * k), (k, [(1, 0)] * (k - 1) + [(1, 1)]), (k, mixture), (k, mixture), (k, mixture, 1),
+            (k, blend, 2),
+        ],
+        "steps": [
+            (k, blend, [("swap", (0,), (k - 1,))]), (blend, other), (k, blend, other),
+            (k, (blend,) + pure, (0, 0), (0, k - 1)),
+        ],
+        "recipetexts": [(blend,), (k, 2, "(" + " ".join("0" * k) + ")")],
+        "tables": [(k, 2, [1] * 2 ** k)],
+        "tasting": [(table, naming, blend), (table, naming, blend)],
+        "faults": [
+            (table,), (table, ("same", 0)), (rows,), (least_table(k, 2), naming[1:] * 2),
+            (Table(k, 2, [0] * 2 ** (k - 1) + [1] * 2 ** (k - 1)), (0, 1), (blend, other)),
+        ],
+        "standard": [(k, 1, 7 if k < 3 else 1), (k, 2, k + 1)],
+        "combining": [
+            (k, [[0, 0], [0, 1]]), (k, 3 if k % 3 else 2), (least_table(k, 1), table), (table, [2, 1]), (table, [0, 1, 1]),
+        ],
+        "texts": [(table,), (f"bowl {k} labels 1\n" + "0",)],
+        "cases": [(2, 1, case), (2, k + 1), (k, mixture, k + 1), (k, 1, [case] * k)],
+        "fillings": [(k, 1, case, 3), (k, 1, case, 3, 2), (k, 1, case), (k, mixture, 1, case, 4)],
+        "oracles": [(k, 2, 1, [5, 6, 7]), (oracle, Oracle(k, 2, 1, [0, 1, 2]))],
+        "moduli": [(oracle,), (oracle,), (oracle, k + 1), (oracle,), (oracle, Oracle(k, 2, 1, [1, 0, 0]))],
+        "chains": [(k, 1, 2, mixture, fine)],
+        "turns": [(chain, 0, chain.length), (k, 1, case, weights, (1, 3)), (k, 2, weights, (1, 3))],
+        "plans": [
+            (k, 2, plan), (k, 2, plan), (k, 2, plan), (k, 2, plan), (k, 2, blend), (table, naming, plan),
+            (table, naming, plan),
+        ],
+        "lines": [(table, naming, 1, 0), (table, naming, 0, 1, 5), (k, 2, 1, 0, 3), (table, naming), (table, naming), (k, 2)],
+        "stories": [
+            (table, naming, (1, (1, k - 1)), (1, (1, k - 1))), (table, naming, (plan, plan)),
+            (table, naming, (3, (1, k ** 3 - 1)), (3, (1 + k * (k - 1), k ** 3 - 1 - k * (k - 1))), 0),
+        ],
+        "questions": [(k, question, mixture), (k, 2, question), (k, 2, ("least", (1, 0), 1)), (k, 2, question)],
+        "closed": [(table, (0, 2)), (table, [2, 1]), (table,), (table, (0, 1, 2))],
+        "parting": [
+            (table, naming, question, (plan, ((other,), 2))),
+            (table, naming, ("least", (k, 0), 1), (1, (1, k - 1)), (3, (1, k ** 3 - 1))), (table, naming, ("least", (2, 0), 1)),
+            (table, naming, 1, 0),
+        ],
+        "knots": [(table, naming, blend), (table, naming, blend, (), (k - 1,), 3), (table, naming, blend)],
+        "wheels": [(table, 1), (table,), (table, 2), (table, 1, 1, 1), (table, 2, 2, -7), (table, 1), (table,)],
+        "lifting": [(table,), (table, 2, 1), (table, naming, mixture), (table, naming, case)],
+        "forms": [
+            (k, [[[0]], [[0]]], [[0, 1], [1, 1]], [[[0], [0]], [None, [0]]]), (table,), None, (table, [2, 0, 1]),
+        ],
+        "alike": [(table, least_table(k, 3)), (table,), (k, 2), (k, 3)],
+        "patterns": [(k, [(weights, 1)], mixture), (k, [(weights, 1)], 1, case)],
+        "deciding": [(k, 2, question)] * 4 + [(k, 2, question, 1), (k, 2, question, 1), (k, 2, question, ("has", 1))],
+        "trails": [(oracle, (pure,)), (oracle, case, (pure,)), (oracle, ((0,), (0, 0)), case)],
+        "least": [(oracle,)] * 4 + [(oracle, mixture)],
+        "lower": [(oracle,), (oracle, 2, ((0, 1), ((),)))],
+        "readings": [(oracle, table, naming), (oracle, table, naming, (((), 0), ((), 1)))],
+        "leastforms": [(oracle, (1,)), (oracle, (0, 1)), (oracle,)],
+        "leastsizes": [(k, (1, 0), k + 1, 1), ((1, 0), k + 1, 1), (k, 3, (0, 2), 1), (3, (0, 2), 1)],
+        "rising": [(table,), (table, ((0,) * k, 0))],
+        "ladders": [((1, 0, 2), 0, 2), (k, (1, 0, 2))],
+        "outlines": [((1, 2, 0),), (table,), ((1, 0, 2),), (4,), (4, 7), ((1, 0, 2),)],
+        "wishes": [
+            (3, [(0, 2, 1, 2)]), (3, [(0, 2, 1, 2)], 1), (4, [(0, 2, 1, 2)], 1, 3), (3, [(0, 2, 1, 2)]),
+            (3, [(0, 2, 1, 2)], ("outline", (1, 0, 2))),
+        ],
+        "climbing": [
+            ((1, 0, 2), (0, 1, 2)), ((1, 0, 2),), ((0, 1, 0),), ((1, 0, 2), (0, 2, 1)), ((1, 0, 2), (0, 2, 1)), ((0, 1, 2),),
+            ((2, 1, 0),), ((0, 1, 2), (2, 1, 0)),
+        ],
+        "rankings": [(table,), (table,), (table, ("ranking", (0, 1, 2)))],
+        "prices": [(table, [3, 2, 1])] * 4 + [(table, 1, 2)],
+        "costs": [(table, [3, 2, 1]), (table, [3, 3, 3], (((3, 1),) * 3, (None,) * 3)), (table, [3, 2, 1], 2)],
+        "trades": [(table, [5, 6, 7], trade), (table, [5, 6, 7], trade)],
+        "worth": [
+            (table, [5, 6, 7], [3, 2, 1]), (table, [5, 0, 0], [3, 2, 1], ((15, 1), (), ((3, 1), None, None))),
+            (table, [5, 6, 7], [3, 2, 1], (1, 9)),
+        ],
+    }
+
+
+def shown(value):
+    """What can be compared: an object's attributes, or the value itself."""
+    if isinstance(value, (Chain, Search)):
+        return {name: shown(inner) for name, inner in vars(value).items()}
+    return value
+
+
+class NameTest(unittest.TestCase):
+    def test_functions_and_classes(self):
+        for k in SIZES:
+            told = samples(k)
+            told["forms"][2] = (Form(*told["forms"][0]),)
+            self.assertEqual(sorted(told), sorted(INTERFACE))
+            for name, words in INTERFACE.items():
+                module = importlib.import_module(f"mixlabels.{name}")
+                words = words.split()
+                self.assertEqual(len(words), len(told[name]), name)
+                for word, values in zip(words, told[name]):
+                    called, names = word[:-1].split("(")
+                    self.check(getattr(module, called), names.split(","), values)
+
+    def check(self, work, names, values):
+        self.assertEqual(len(names), len(values), work)
+        plain = shown(work(*values))
+        pairs = list(zip(names, values))
+        for row in (pairs, pairs[::-1], pairs[1:] + pairs[:1]):
+            self.assertEqual(shown(work(**dict(row))), plain, work)
+        for many in range(1, len(values)):
+            rest = dict(reversed(pairs[many:]))
+            self.assertEqual(shown(work(*values[:many], **rest)), plain, work)
+
+    def test_methods(self):
+        oracle = Oracle(2, 2, 1, [4, 5, 6])
+        chain = Chain(2, 1, 4, (1, (1, 1)), (4, (1, 15)))
+        values = {
+            "blend": (least_table(2, 3), (1, 2)), "case_answer": (oracle, ((0, 1), (0, 0))),
+            "mixture_answer": (oracle, (1, (1, 1))), "mixture_after": (chain, 1), "jump_at": (chain, 0),
+            "halved": (Search(chain, 0, 4), True),
+        }
+        for methods in METHODS.values():
+            for name, argument in methods.items():
+                thing, value = values[name]
+                work = getattr(thing, name)
+                self.assertEqual(shown(work(**{argument: value})), shown(work(value)))
+
+
+if __name__ == "__main__":
+    unittest.main()

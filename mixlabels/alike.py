@@ -39,11 +39,7 @@ def leads(one, other, names, fresh):
     """Whether these blends, of labels that have their names, are as the names want it."""
     for cups in fresh:
         label = blend_label(one, cups)
-        named = blend_label(other, [names[cup] for cup in cups])
-        if label < len(names):
-            if names[label] != named:
-                return False
-        elif named in names:
+        if label < len(names) and names[label] != blend_label(other, [names[cup] for cup in cups]):
             return False
     return True
 

@@ -57,7 +57,7 @@ def is_associative(rows):
 
 
 def are_sums(k, value):
-    if not is_sequence(value) or not 1 <= len(value) <= MOST_LABELS:
+    if not is_sequence(value):
         return False
     if not all([is_sum_table(rows) and gcd(len(rows), k) == 1 for rows in value]):
         return False

@@ -45,21 +45,17 @@ class Echelon:
         self.back[least] = [self.back[least][i] + many * value for i, value in enumerate(self.back[c])]
 
     def solved(self, k, sums):
-        """The new unknowns that the equations with these fractions as sums tell, or None if there are no such ones."""
+        """The new unknowns that the equations tell, or None if one of them is no integer divided by a power of k."""
+        # The sums are fractions for which the equations go together, so that some may tell nothing new.
         found = []
-        for at, row in enumerate(self.rows):
-            left = sums[at]
-            for c, value in enumerate(found):
-                left = less(left, times((row[c], 1), value))
-            step = self.steps[at]
-            if step is None:
-                if left[0] != 0:
+        for row, step, total in zip(self.rows, self.steps, sums):
+            if step is not None:
+                left = total
+                for c, value in enumerate(found):
+                    left = less(left, times((row[c], 1), value))
+                found.append(made(left[0], left[1] * row[step]))
+                if not divides_power(k, found[-1][1]):
                     return None
-            else:
-                value = made(left[0], left[1] * row[step])
-                if not divides_power(k, value[1]):
-                    return None
-                found.append(value)
         return found
 
 

@@ -15,7 +15,8 @@ def includes(some, others):
 
 def settled_set(oracle, contained):
     answers = answers_by_case(oracle)
-    return tuple([i for i in range(oracle.ingredients) if i in contained or not matters(answers, contained, i)])
+    # What is in the set itself is never beside it, so that it does not matter either.
+    return tuple([i for i in range(oracle.ingredients) if not matters(answers, contained, i)])
 
 
 def matters(answers, contained, i):

@@ -4,7 +4,7 @@ from mixlabels.arithmetic import power
 from mixlabels.deciding import parting_mixtures
 from mixlabels.errors import Refused
 from mixlabels.leaves import digit_leaves
-from mixlabels.lines import check_pair, last_number, line, line_rows, shift_modulus
+from mixlabels.lines import last_number, line, line_rows, shift_modulus
 from mixlabels.plans import plan_mixture
 from mixlabels.questions import answer, checked_question
 from mixlabels.stories import is_story, path, planned, story
@@ -45,7 +45,6 @@ def refutation(table, naming, question):
 
 def more_story(table, naming, i, j):
     names = checked_naming(table, naming)
-    check_pair(len(names), i, j)
     labels, start = line(table, names, i, j)
     # The line comes back to the label with the index start: two parts for the same place beside the same cups.
     return tuple([plan_beside(table.k, len(names), (i, j), t, len(labels)) for t in (start, len(labels))])

@@ -29,9 +29,8 @@ def is_trade(table, stock, value):
         return False
     amounts = moved(table, amounts, first, 1)
     # What is there changes evenly from one time to the next, so that it is least the first or the last time.
-    if many > 0 and not can_throw(table, amounts, again):
-        return False
-    if many > 0 and not can_throw(table, moved(table, amounts, again, many - 1), again):
+    starts = [moved(table, amounts, again, times_ahead) for times_ahead in (0, many - 1)]
+    if many > 0 and not all([can_throw(table, start, again) for start in starts]):
         return False
     return can_throw(table, moved(table, amounts, again, many), last)
 

@@ -7,9 +7,11 @@ import unittest
 from mixlabels.alike import faithful_count, kinds, likeness, symmetry_count
 from mixlabels.combining import mean_table, pair_table
 from mixlabels.faults import fault
-from mixlabels.forms import renamed
+from mixlabels.forms import form_table, renamed
 from mixlabels.tables import Table
-from tests.faithful import called_anew, drawn_faithful, star_table, unfaithful_tables
+from tests.faithful import (
+    called_anew, chain_form, drawn_faithful, klein_form, star_table, unfaithful_tables,
+)
 from tests.helpers import SIZES, error_of, generator, least_table, most_labels
 
 
@@ -104,7 +106,8 @@ class KindTest(unittest.TestCase):
         rnd = generator(3)
         for k in SIZES:
             told = {labels: kinds(k, labels) for labels in range(1, min(4, most_labels(k)) + 1)}
-            for table in small_tables(rnd, k, 25):
+            more = [form_table(klein_form(k)), mean_table(k, 4), form_table(chain_form(k, (2, 2), [(1, 1)]))] if k == 3 else []
+            for table in small_tables(rnd, k, 25) + more:
                 self.assertEqual(len([kind for kind in told[table.labels] if likeness(kind, table)]), 1)
             for labels, row in told.items():
                 for table in row:
@@ -116,7 +119,7 @@ class KindTest(unittest.TestCase):
 
     def test_examples(self):
         self.assertEqual((faithful_count(2, 3), faithful_count(2, 4), faithful_count(3, 3)), (10, 92, 18))
-        self.assertEqual(faithful_count(4, 4), 92)
+        self.assertEqual((faithful_count(4, 4), faithful_count(3, 4)), (92, 200))
         self.assertEqual(faithful_count(5, 3), 19)
 
     def test_refused(self):

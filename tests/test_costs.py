@@ -117,6 +117,9 @@ class CostTest(unittest.TestCase):
         table = Table(2, 3, [0, 2, 0, 0, 0, 0, 0, 0, 0])
         self.assertEqual(costs(table, [0, 6, 100])[0][2], (3, 1))
         self.assertEqual(cheapest_recipe(table, [0, 6, 100], 2), (0, 1))
+        self.assertEqual(costs(table, [0, 5, 100])[0], ((0, 1), (5, 1), (5, 2)))
+        self.assertEqual(cheapest_recipe(table, [0, 5, 100], 2), (0, 1))
+        self.assertEqual(cheapest_recipe(table, [0, 5, 100], 1), 1)
         loop = Table(2, 2, [1, 0, 0, 0])
         self.assertEqual(costs(loop, [9, 0])[0], ((0, 1), (0, 1)))
         self.assertEqual(cheapest_recipe(loop, [9, 0], 0), (1, 1))
@@ -143,6 +146,19 @@ class IsCostsTest(unittest.TestCase):
                         other[at] = rnd.choice([None, tuple(rnd.randrange(table.labels) for _ in range(k)), (at,) * k])
                     value = tuple(pair(number) for number in numbers), tuple(other)
                     self.assertIs(is_costs(table, prices, value), plainly_costs(table, prices, numbers, other))
+
+    def test_each_condition_alone(self):
+        for k in SIZES:
+            table = least_table(k, 2)
+            up, down = (0,) * (k - 1) + (1,), (1,) * k
+            self.assertIs(is_costs(table, [0, 5], (((0, 1), (5, 1)), (None, None))), True)
+            # Beyond a price; k times that of a blend above its cups, by one; not the price; not that of the way.
+            self.assertIs(is_costs(table, [0, 5], (((5, 1), (5, 1)), (up, None))), False)
+            self.assertIs(is_costs(table, [1, 0], (((1, 1), (0, 1)), (None, None))), False)
+            self.assertIs(is_costs(table, [0, 5], (((0, 1), (4, 1)), (None, None))), False)
+            self.assertIs(is_costs(table, [1, 5], (((0, 1), (4, 1)), (None, down))), False)
+            self.assertIs(is_costs(table, [5, 0], (((0, 1), (0, 1)), (up, None))), True)
+            self.assertIs(is_costs(table, [5, 0], (((0, 1), (0, 1)), (down, None))), False)
 
     def test_ways_must_end(self):
         for k in SIZES:

@@ -60,6 +60,12 @@ def plain_error(sums, joins, maps):
     return None
 
 
+def turns_and_flips():
+    """A table that is a sum table but for the order of the two: turns and flips of a square."""
+    shapes = [(turn, flip) for flip in (0, 1) for turn in range(4)]
+    return [[shapes.index(((a + (-b if flip else b)) % 4, flip ^ other)) for b, other in shapes] for a, flip in shapes]
+
+
 class FormTest(unittest.TestCase):
     def forms(self, k):
         found = [chain_form(k, *told) for told in CHAINS[k]] + [form_of(table) for table in faithful_tables(k)[::3]]
@@ -90,6 +96,8 @@ class FormTest(unittest.TestCase):
         self.assertFalse(chain_form(3, (1, 2), [(0, 0)]) == chain_form(3, (2, 1), [(0, 0)]))
         other = Form(3, one.sums, ((0, 0), (0, 1)), ((one.maps[0][0], None), ((0, 0, 0, 0), one.maps[1][1])))
         self.assertFalse(one == other)
+        whole = [[[0, 1, 2, 3]]]
+        self.assertFalse(Form(3, [cyclic(4)], [[0]], whole) == klein_form(3))
         for value in ODD + ((one.k, one.sums, one.joins, one.maps), form_table(one)):
             self.assertFalse(one == value)
             self.assertTrue(one != value)
@@ -129,6 +137,10 @@ class FormTest(unittest.TestCase):
             for joins, maps in (([[0]], [[[0, 1, 2]]]), (None, None)):
                 self.assertEqual(error_of(Form, 2, value, joins, maps), ("InvalidForm", 0), value)
         self.assertIsNone(error_of(Form, 2, [good], [[0]], [[[0, 1, 2]]]))
+        self.assertFalse(is_sum_table(turns_and_flips()))
+        told = error_of(Form, 3, [turns_and_flips()], [[0]], [[list(range(8))]])
+        self.assertEqual(told, ("InvalidForm", 0))
+        self.assertIsNone(error_of(Form, 3, [cyclic(8)], [[0]], [[list(range(8))]]))
         for k in SIZES:
             for size in range(1, 14):
                 good = size <= most_labels(k) and all(size % p or k % p for p in (2, 3, 5))

@@ -16,10 +16,21 @@ from tests.helpers import (
 
 def drawn_table(rnd, k):
     labels = rnd.randrange(1, most_labels(k) + 1)
-    kind = rnd.randrange(5)
+    kind = rnd.randrange(7)
     if kind < 2:
         return drawn_faithful(rnd, k)
-    return [random_table, calm_table, lambda rnd, k, n: calm_table(rnd, k, n, False)][kind - 2](rnd, k, labels)
+    if kind < 4:
+        return sparse_table(rnd, k, max(labels, 2))
+    return [random_table, calm_table, lambda rnd, k, n: calm_table(rnd, k, n, False)][kind - 4](rnd, k, labels)
+
+
+def sparse_table(rnd, k, labels):
+    """A few lots of cups come to something; like cups stay, all else comes to the last label."""
+    results = {cups: cups[0] if len(set(cups)) == 1 else labels - 1
+               for cups in itertools.product(range(labels), repeat=k)}
+    for _ in range(rnd.randrange(1, 2 * labels)):
+        results[tuple(rnd.randrange(labels - 1) for _ in range(k))] = rnd.randrange(labels)
+    return Table(k, labels, list(results.values()))
 
 
 def drawn_prices(rnd, labels):

@@ -115,9 +115,12 @@ class RankingTest(unittest.TestCase):
         rnd = generator(3)
         for k in SIZES:
             tables = [drawn_faithful(rnd, k) for _ in range(40)]
-            for table in [table for table in tables if 2 < table.labels < 5][:4]:
+            tables = [table for table in tables if 2 < table.labels < 5][:3]
+            if k < 5:
+                tables.append(called_anew(rnd, pair_table(least_table(k, 2), least_table(k, 2))))
+            for table in tables:
                 wrong = plain_hindrances(table)
-                for a, b, c in itertools.product(range(-1, table.labels + 1), repeat=3):
+                for a, b, c in itertools.product(range(table.labels + 1), repeat=3):
                     for value in (("wheel", a, b), ("fork", a, b, c), ("three", a, b, c)):
                         self.assertIs(is_ranking_evidence(table, value), value in wrong, value)
                 for row in itertools.permutations(range(table.labels)):
@@ -137,6 +140,7 @@ class RankingTest(unittest.TestCase):
                                                    (0, 1, 9), (0, 1, -1), (0, 1, 2.0), 3, (0, 2, 1, 3, 0))]
             for told in wrong + list(ODD):
                 self.assertIs(is_ranking_evidence(table, told), False, told)
+        self.assertIs(is_ranking_evidence(fork, ("fork", 0, 2, 1)), False)
         self.assertIs(is_ranking_evidence(wheel, ("fork", 0, 1, 2)), False)
         self.assertIs(is_ranking_evidence(star, ("wheel", 0, 1)), False)
         self.assertIs(is_ranking_evidence(pair_table(ladder, wheel), ("wheel", 0, 1)), True)

@@ -174,7 +174,7 @@ class LeastTest(unittest.TestCase):
         for k in SIZES:
             kinds = set()
             for _ in range(40):
-                oracle = drawn_oracle(rnd, k, 60)
+                oracle = drawn_oracle(rnd, k, 40)
                 m = oracle.ingredients
                 many = least_size(oracle)
                 kinds.add(many > most_labels(k))
@@ -184,7 +184,7 @@ class LeastTest(unittest.TestCase):
                 table, naming = least_table(oracle=oracle)
                 self.assertEqual((table.k, table.labels, len(naming), fault(table)), (k, many, m, None))
                 self.assertIsInstance(naming, tuple)
-                for _ in range(20):
+                for _ in range(10):
                     recipe = random_recipe(rnd, k, m, 3)
                     mixture = mixture_of(k, m, recipe)
                     label = label_of(table, naming, recipe)

@@ -42,11 +42,11 @@ class WheelTest(unittest.TestCase):
     def test_against_the_words(self):
         rnd = generator(1)
         for k in SIZES:
-            for table in [called_anew(rnd, table) for table in rnd.sample(faithful_tables(k), 16)]:
+            for table in [called_anew(rnd, table) for table in rnd.sample(faithful_tables(k), 20)]:
                 inside = plain_inside(table)
                 told = wheels(table=table)
                 self.assertEqual(told, plain_wheels(table))
-                for a in range(table.labels):
+                for a in rnd.sample(range(table.labels), min(table.labels, 4)):
                     self.assertEqual(labels_in(table=table, a=a), tuple(b for b in range(table.labels) if (a, b) in inside))
                     self.assertIn(a, told[wheel_of(table=table, a=a)])
                 for a, b, c in itertools.product(range(table.labels), repeat=3):
@@ -55,7 +55,8 @@ class WheelTest(unittest.TestCase):
                 for number, wheel in enumerate(told):
                     self.assertEqual(math.gcd(len(wheel), k), 1)
                     for cups in itertools.islice(itertools.product(wheel, repeat=k), 100):
-                        self.assertEqual(wheel_of(table, table.blend(cups)), number)
+                        self.assertIn(table.blend(cups), wheel)
+                    self.assertEqual(wheel_of(table, wheel[-1]), number)
 
     def test_one_wheel_and_as_many_as_labels(self):
         for k in SIZES:

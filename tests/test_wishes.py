@@ -135,6 +135,20 @@ class EvidenceTest(unittest.TestCase):
         self.assertIs(is_wish_evidence(3, wishes, ("none", rows[:2] + rows[:1] + rows[2:])), True)
         self.assertIs(is_wish_evidence(3, wishes, ("none", (rows[0], rows[2], rows[1], rows[2]))), False)
 
+    def test_rows_about_no_labels_or_too_many(self):
+        empty = ("none", ((1, 0, ()), (0, 0, (("row", 0),)), (1, 1, (("row", 0),)), (0, 1, (("row", 2), ("row", 1)))))
+        self.assertIs(is_wish_evidence(2, (), empty), False)
+        whole = (0, 1, (("wish", 1), ("wish", 0)))
+        wishes = ((0, 1, 0, 0), (0, 1, 1, 1))
+        self.assertIs(is_wish_evidence(2, wishes, ("none", (whole,))), True)
+        self.assertIs(is_wish_evidence(2, wishes, ("none", (whole, whole))), True)
+        beyond = (0, 2, (("wish", 1), ("wish", 0), ("row", 0)))
+        self.assertIs(is_wish_evidence(3, wishes, ("none", (whole, beyond))), True)
+        self.assertIs(is_wish_evidence(2, wishes, ("none", (whole, beyond, whole))), False)
+        for word in ("Row", "", "rows", b"row", 0, None, True):
+            other = (0, 2, (("wish", 1), ("wish", 0), (word, 0)))
+            self.assertIs(is_wish_evidence(3, wishes, ("none", (whole, other))), False)
+
     def test_any_value(self):
         wishes = ((0, 1, 2, 2), (0, 2, 1, 2), (2, 2, 0, 1))
         one, two = (0, 1, (("wish", 0), ("wish", 0))), (2, 2, (("wish", 2),))

@@ -119,6 +119,22 @@ class WorthTest(unittest.TestCase):
                 self.assertTrue(plainly_worth(table, stock, prices, *as_fractions(worth(table, stock, prices))))
 
 
+    def test_fractions(self):
+        for k in (3, 4, 5):
+            # Only k - 1 cups 0 and then one cup 1 come to 2, nothing else to 0.
+            results = [1] * 3 ** k
+            results[0], results[1], results[-1] = 0, 2, 2
+            table, stock, prices = Table(k, 3, results), [1, 7, 0], [0, 0, 4]
+            told = worth(table, stock, prices)
+            self.assertTrue(plainly_worth(table, stock, prices, *as_fractions(told)))
+            self.assertEqual(Fraction(*told[0]), Fraction(4 * k, k - 1))
+            for gap in ((1, 10 ** 18), (1, 2), (22, 7)):
+                trade = near_trade(table, stock, prices, gap)
+                self.assertIs(is_trade(table, stock, trade), True)
+                found = worth_at_end(table, stock, prices, trade)
+                self.assertTrue(Fraction(*told[0]) - Fraction(*gap) <= found <= Fraction(*told[0]))
+
+
 class IsWorthTest(unittest.TestCase):
     def test_each_part_changed(self):
         rnd = generator(5)
@@ -155,6 +171,13 @@ class IsWorthTest(unittest.TestCase):
         changed = pair(value), tuple((cups, pair(amount)) for cups, amount in flow), tuple(
             None if limit is None else pair(limit) for limit in limits)
         self.assertIs(is_worth(table, stock, prices, changed), shows)
+
+    def test_limits_a_little_too_great_or_small(self):
+        # 0 and 1 come to 2, whose limit is at most half of theirs, and at least its price.
+        table = Table(2, 3, [0, 2, 1, 1, 1, 1, 1, 1, 2])
+        for limit, shows in (((0, 1), True), ((1, 2), True), ((1, 3), True), ((1, 1), False), ((51, 100), False), ((-1, 1), False)):
+            value = ((1, 1), (), ((1, 1), (0, 1), limit))
+            self.assertIs(is_worth(table, [1, 1, 0], [1, 0, 0], value), shows)
 
     def test_any_value(self):
         table, stock, prices = least_table(2, 3), [1, 1, 0], [3, 1, 9]

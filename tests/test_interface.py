@@ -7,6 +7,7 @@ import unittest
 from mixlabels import errors
 from mixlabels.chains import Chain
 from mixlabels.oracles import Oracle
+from mixlabels.racks import Rack
 from mixlabels.tables import Table
 from mixlabels.turns import Search
 
@@ -84,12 +85,31 @@ INTERFACE = {
     "costs": "costs(table,prices) is_costs(table,prices,value) cheapest_recipe(table,prices,label)",
     "trades": "is_trade(table,stock,value) after(table,stock,trade)",
     "worth": "worth(table,stock,prices) is_worth(table,stock,prices,value) near_trade(table,stock,prices,gap)",
+    "reach": "reach(table,stock,prices) is_reach(table,stock,prices,value)",
+    "likenesses": "Likenesses(k,ingredients,pairs) book_label(table,naming,mixture) broken(told,table,naming) "
+                  "sealed_sets(told) sealing(told,mixture)",
+    "following": "sure_alike(told,one,other) multipliers(told,one,other) is_multipliers(told,one,other,value)",
+    "exchanges": "exchanged(told,mixture,exchange) passage(told,one,other) is_passage(told,one,other,value)",
+    "markings": "is_marking(k,ingredients,value) marked(k,marking,mixture) marking_book(k,ingredients,marking) "
+                "marks_apart(told,one,other,value) least_marking(told,one,other)",
+    "finest": "sure_form(told,some) class_count(told) finest_book(told) first_alike(told,mixture) needless(told)",
+    "hints": "cells_told(k,labels,cells) sure_result(told,cups) same_labels(told)",
+    "guides": "is_guide(table,naming,value) follow(guide,label) depths(table,naming) depth_guide(table,naming) "
+              "cheapest(table,naming,costs,fee) is_floor(table,naming,costs,fee,value)",
+    "fullness": "full_labels(table,naming,depth) course(table,naming) full_counts(table,naming,depth) "
+                "counts_modulo(table,naming,depth,modulus) far_counts(table,naming,depth)",
+    "ranks": "full_at(table,naming,depth,label,index) rank_of(table,naming,recipe) mixture_counts(table,naming,mixture)",
+    "racks": "Rack(tables) standard_rack(sizes,m,d)",
+    "mixed": "checked_mixed(sizes,ingredients,value) mixed_shares(ingredients,recipe) is_shares(sizes,value) "
+             "mixed_recipe(sizes,shares) share_remainders(shares,modulus) told_apart(sizes,one,other)",
 }
+# The methods that the interface lists for each class, with their arguments.
 METHODS = {
-    Table: {"blend": "cups"},
-    Oracle: {"case_answer": "case", "mixture_answer": "mixture"},
-    Chain: {"mixture_after": "index", "jump_at": "index"},
-    Search: {"halved": "is_like_low"},
+    Table: "blend(cups)",
+    Oracle: "case_answer(case) mixture_answer(mixture)",
+    Chain: "mixture_after(index) jump_at(index)",
+    Search: "halved(is_like_low)",
+    Rack: "blend(cups)",
 }
 ERRORS = (
     "InvalidBowl InvalidRecipe InvalidMixture InvalidTable InvalidNaming InvalidForm InvalidQuestion InvalidPrices "
@@ -109,8 +129,10 @@ class InterfaceTest(unittest.TestCase):
 
     def test_methods_stand_in_their_class(self):
         for kind, methods in METHODS.items():
-            for name, argument in methods.items():
-                self.assertEqual(list(inspect.signature(vars(kind)[name]).parameters), ["self", argument])
+            for word in methods.split():
+                name, rest = word[:-1].split("(")
+                names = [argument for argument in rest.split(",") if argument]
+                self.assertEqual(list(inspect.signature(vars(kind)[name]).parameters), ["self"] + names)
 
 
 class ErrorsTest(unittest.TestCase):

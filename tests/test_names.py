@@ -1,11 +1,14 @@
-"""Arguments can be passed by their names, in any order; points 1 and 5 to 60."""
+"""Arguments can be passed by their names, in any order; points 1 and 5 to 75."""
 
 import importlib
+import math
 import unittest
 
 from mixlabels.chains import Chain
 from mixlabels.forms import Form
+from mixlabels.likenesses import Likenesses
 from mixlabels.oracles import Oracle
+from mixlabels.racks import Rack
 from mixlabels.tables import Table
 from mixlabels.turns import Search
 from tests.helpers import SIZES, least_table
@@ -25,6 +28,10 @@ def samples(k):
     rows = ((0,) * k,) * (k - 1) + ((1,) * k,)
     throw = ((0,) * k, (1, k))
     trade = ((throw,), 2, (throw,), (throw,))
+    pure_worth = ((15, 1), (), ((3, 1), None, None))
+    told, free = Likenesses(k, 2, [(mixture, fine)]), Likenesses(k, 2, [])
+    small = Likenesses(k, 2, [((0, (1, 0)), (0, (0, 1)))])
+    marking = ((0, 1), next(d for d in (2, 3, 4, 5) if math.gcd(d, k) == 1 and (k - 1) % d), (0, 1))
     return {
         "ratios": [((1, 2),), (2, 4), ((1, 2), (1, 3)), ((1, 2), (1, 3)), ((1, 2), (1, 3)), ((1, 2), (1, 3))],
         "recipes": [(k,), (k,), (k, 2, blend), (k, 2, blend), (blend,), (blend,), (blend, (k - 1,)), (blend, (0,), 1)],
@@ -108,6 +115,30 @@ def samples(k):
             (table, [5, 6, 7], [3, 2, 1]), (table, [5, 0, 0], [3, 2, 1], ((15, 1), (), ((3, 1), None, None))),
             (table, [5, 6, 7], [3, 2, 1], (1, 9)),
         ],
+        "reach": [(table, [5, 6, 7], [3, 2, 1]), (table, [5, 0, 0], [3, 2, 1], ("reached", pure_worth, ((), 0, (), ())))],
+        "likenesses": [
+            (k, 2, [(mixture, fine)]), (table, naming, mixture), (told, table, naming), (told,), (told, mixture),
+        ],
+        "following": [(told, mixture, fine), (told, mixture, fine), (told, mixture, fine, (0, (1,)))],
+        "exchanges": [
+            (told, mixture, (0, 0, 1, 1)), (told, mixture, fine), (told, mixture, fine, ((), 1, (), ((0, 0, 0, 1),))),
+        ],
+        "markings": [
+            (k, 2, marking), (k, marking, mixture), (k, 1, ((0,), 1, (0,))), (free, mixture, fine, marking), (free, mixture, fine),
+        ],
+        "finest": [(told, (0, 1)), (told,), (small,), (told, mixture), (told,)],
+        "hints": [(k, 2, [(blend, 1)]), (told, blend), (told,)],
+        "guides": [
+            (table, naming, {0: 1, 2: 0}), ({0: 1, 2: (0,) * k}, 2), (table, naming), (table, naming),
+            (table, naming, [5, 7], 3), (table, naming, [5, 7], 3, (7, None, 5)),
+        ],
+        "fullness": [(table, naming, 2), (table, naming), (table, naming, 2), (table, naming, 2, 7), (table, naming, 2)],
+        "ranks": [(table, naming, 1, 0, 2), (table, naming, blend), (table, naming, mixture)],
+        "racks": [([table],), ((k,), 1, k + 1 if k != 5 else 2)],
+        "mixed": [
+            ((k,), 2, blend), (2, blend), ((k,), ((1, k), (k - 1, k))), ((k,), ((1, k), (k - 1, k))),
+            (((1, k), (k - 1, k)), k + 1), ((k,), ((1, k), (k - 1, k)), ((1, k * k), (k * k - 1, k * k))),
+        ],
     }
 
 
@@ -145,16 +176,17 @@ class NameTest(unittest.TestCase):
     def test_methods(self):
         oracle = Oracle(2, 2, 1, [4, 5, 6])
         chain = Chain(2, 1, 4, (1, (1, 1)), (4, (1, 15)))
-        values = {
-            "blend": (least_table(2, 3), (1, 2)), "case_answer": (oracle, ((0, 1), (0, 0))),
-            "mixture_answer": (oracle, (1, (1, 1))), "mixture_after": (chain, 1), "jump_at": (chain, 0),
-            "halved": (Search(chain, 0, 4), True),
+        calls = {
+            "Table.blend": (least_table(2, 3), (1, 2)), "Oracle.case_answer": (oracle, ((0, 1), (0, 0))),
+            "Oracle.mixture_answer": (oracle, (1, (1, 1))), "Chain.mixture_after": (chain, 1), "Chain.jump_at": (chain, 0),
+            "Search.halved": (Search(chain, 0, 4), True), "Rack.blend": (Rack([least_table(2, 3)]), (1, 2)),
         }
-        for methods in METHODS.values():
-            for name, argument in methods.items():
-                thing, value = values[name]
-                work = getattr(thing, name)
-                self.assertEqual(shown(work(**{argument: value})), shown(work(value)))
+        for kind, methods in METHODS.items():
+            for word in methods.split():
+                name, rest = word[:-1].split("(")
+                thing, *values = calls.pop(f"{kind.__name__}.{name}")
+                self.check(getattr(thing, name), rest.split(","), values)
+        self.assertEqual(calls, {})
 
 
 if __name__ == "__main__":

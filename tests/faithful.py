@@ -1,5 +1,6 @@
 """Faithful tables of many kinds."""
 
+import functools
 import itertools
 import math
 
@@ -62,6 +63,7 @@ def star_table(k, labels):
     return join_table(k, [[a if a == b else 0 for b in range(labels)] for a in range(labels)])
 
 
+@functools.lru_cache(None)
 def faithful_tables(k):
     most = most_labels(k)
     sizes = [d for d in range(1, most + 1) if math.gcd(d, k) == 1]
@@ -76,7 +78,7 @@ def faithful_tables(k):
     found += [form_table(chain_form(k, *told)) for told in CHAINS[k]]
     if k == 3:
         found += [form_table(fork_form(k)), form_table(klein_form(k))]
-    return found
+    return tuple(found)
 
 
 def drawn_faithful(rnd, k):

@@ -6,10 +6,13 @@ import unittest
 
 from mixlabels import errors
 from mixlabels.chains import Chain
+from mixlabels.desk import Desk
+from mixlabels.likenesses import Likenesses
 from mixlabels.oracles import Oracle
 from mixlabels.racks import Rack
 from mixlabels.tables import Table
 from mixlabels.turns import Search
+from mixlabels.yard import Yard
 
 INTERFACE = {
     "ratios": "is_fraction(value) made(top,bottom) added(one,other) less(one,other) times(one,other) "
@@ -102,6 +105,21 @@ INTERFACE = {
     "racks": "Rack(tables) standard_rack(sizes,m,d)",
     "mixed": "checked_mixed(sizes,ingredients,value) mixed_shares(ingredients,recipe) is_shares(sizes,value) "
              "mixed_recipe(sizes,shares) share_remainders(shares,modulus) told_apart(sizes,one,other)",
+    "across": "mixed_label(rack,naming,recipe) rack_fault(rack) is_rack_fault(rack,value) "
+              "shares_label(rack,naming,shares)",
+    "othersizes": "other_table(table,size) table_sizes(table)",
+    "bowlstories": "bowl_story(rack,naming,k,l) is_bowl_story(rack,naming,k,value)",
+    "wear": "worn_fault(table) is_worn_fault(table,value) shift_table(k,sums,shift) "
+            "leaves_apart(ingredients,one,other)",
+    "groupings": "is_grouping(labels,value) grouping_of(labels,pairs) is_finer(one,other) joined(one,other) "
+                 "met(one,other) classes_of(grouping) clash(table,grouping)",
+    "mending": "mends(table,grouping) mended(table) is_mending(table,value) mended_table(table)",
+    "forcing": "forced(table,one,other) is_forced_evidence(table,one,other,value)",
+    "telling": "told_by_mixture(table,some) is_told_evidence(table,some,value) told_sets(table)",
+    "quotients": "coarsest(table,answers) parted(table,answers,one,other) mendings(table)",
+    "yard": "Yard(table,naming)",
+    "sheets": "sheet_holds(value) sheet(kind,question) wrong_sheets(values)",
+    "desk": "Desk()",
 }
 # The methods that the interface lists for each class, with their arguments.
 METHODS = {
@@ -109,12 +127,20 @@ METHODS = {
     Oracle: "case_answer(case) mixture_answer(mixture)",
     Chain: "mixture_after(index) jump_at(index)",
     Search: "halved(is_like_low)",
-    Rack: "blend(cups)",
+    Rack: "blend(cups) __eq__(other)",
+    Likenesses: "__eq__(other) __len__()",
+    Yard: "__len__() vats() bring(ingredient) blend(vats) pour(vat) label(vat) mixture(vat) recipe(vat) stock() "
+          "relabel(table,naming) groups() unlike() undo() within(work)",
+    Desk: "say(command)",
 }
 ERRORS = (
     "InvalidBowl InvalidRecipe InvalidMixture InvalidTable InvalidNaming InvalidForm InvalidQuestion InvalidPrices "
     "InvalidPair InvalidText NotFaithful Refused InvalidCommand"
 ).split()
+
+
+def words_of(text):
+    return text.split(",") if text else []
 
 
 class InterfaceTest(unittest.TestCase):
@@ -125,14 +151,13 @@ class InterfaceTest(unittest.TestCase):
                 called, rest = word[:-1].split("(")
                 thing = getattr(module, called)
                 self.assertEqual(thing.__module__, f"mixlabels.{name}")
-                self.assertEqual(list(inspect.signature(thing).parameters), rest.split(","), word)
+                self.assertEqual(list(inspect.signature(thing).parameters), words_of(rest), word)
 
     def test_methods_stand_in_their_class(self):
         for kind, methods in METHODS.items():
             for word in methods.split():
                 name, rest = word[:-1].split("(")
-                names = [argument for argument in rest.split(",") if argument]
-                self.assertEqual(list(inspect.signature(vars(kind)[name]).parameters), ["self"] + names)
+                self.assertEqual(list(inspect.signature(vars(kind)[name]).parameters), ["self"] + words_of(rest))
 
 
 class ErrorsTest(unittest.TestCase):

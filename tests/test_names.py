@@ -1,18 +1,20 @@
-"""Arguments can be passed by their names, in any order; points 1 and 5 to 75."""
+"""Arguments can be passed by their names, in any order; points 1 and 5 to 90."""
 
 import importlib
 import math
 import unittest
 
 from mixlabels.chains import Chain
+from mixlabels.desk import Desk
 from mixlabels.forms import Form
 from mixlabels.likenesses import Likenesses
 from mixlabels.oracles import Oracle
 from mixlabels.racks import Rack
 from mixlabels.tables import Table
 from mixlabels.turns import Search
-from tests.helpers import SIZES, least_table
-from tests.test_interface import INTERFACE, METHODS
+from mixlabels.yard import Yard
+from tests.helpers import SIZES, first_table, least_table
+from tests.test_interface import INTERFACE, METHODS, words_of
 
 
 def samples(k):
@@ -31,6 +33,8 @@ def samples(k):
     pure_worth = ((15, 1), (), ((3, 1), None, None))
     told, free = Likenesses(k, 2, [(mixture, fine)]), Likenesses(k, 2, [])
     small = Likenesses(k, 2, [((0, (1, 0)), (0, (0, 1)))])
+    size = 2 if k % 2 else 3
+    rack, first = Rack([least_table(k, 3), least_table(size, 3)]), first_table(k, 2)
     marking = ((0, 1), next(d for d in (2, 3, 4, 5) if math.gcd(d, k) == 1 and (k - 1) % d), (0, 1))
     return {
         "ratios": [((1, 2),), (2, 4), ((1, 2), (1, 3)), ((1, 2), (1, 3)), ((1, 2), (1, 3)), ((1, 2), (1, 3))],
@@ -139,12 +143,31 @@ def samples(k):
             ((k,), 2, blend), (2, blend), ((k,), ((1, k), (k - 1, k))), ((k,), ((1, k), (k - 1, k))),
             (((1, k), (k - 1, k)), k + 1), ((k,), ((1, k), (k - 1, k)), ((1, k * k), (k * k - 1, k * k))),
         ],
+        "across": [
+            (rack, naming, (0, (1,) * k) + (0,) * (size - 2)), (rack,), (rack, (1, ("same", 0))), (rack, naming, ((1, 2 * k), (2 * k - 1, 2 * k))),
+        ],
+        "othersizes": [(least_table(k, 3), 7 - k), (table,)],
+        "bowlstories": [(rack, naming, k, size), (rack, naming, k, ((0, 1), (0, 1)))],
+        "wear": [
+            (first,), (first, ("order", other, 0)), (k, [[0, 1, 2], [1, 2, 0], [2, 0, 1]], [0, 2, 1]), (2, blend, (0, blend)),
+        ],
+        "groupings": [
+            (3, (0, 1, 0)), (3, [(0, 2)]), ((0, 1, 2), (0, 1, 0)), ((0, 1, 2), (0, 1, 0)), ((0, 1, 1), (0, 1, 0)), ((0, 1, 0),),
+            (table, (0, 1, 0)),
+        ],
+        "mending": [(table, (0, 1, 1)), (first,), (first, ((0, 0), ((blend, other),))), (first,)],
+        "forcing": [(first, 0, 1), (table, 0, 2, ("apart", (0, 1, 2)))],
+        "telling": [(first, [0]), (table, [0], ("told", (0, 1, 2))), (table,)],
+        "quotients": [(table, (5, 5, 0)), (table, (5, 5, 0), 1, 2), (table,)],
+        "yard": [(table, naming)],
+        "sheets": [(("mended", (first,), ((0, 0), ((blend, other),))),), ("forced", (first, 0, 1)), ([None],)],
+        "desk": [()],
     }
 
 
 def shown(value):
     """What can be compared: an object's attributes, or the value itself."""
-    if isinstance(value, (Chain, Search)):
+    if isinstance(value, (Chain, Search, Yard, Desk)):
         return {name: shown(inner) for name, inner in vars(value).items()}
     return value
 
@@ -161,7 +184,7 @@ class NameTest(unittest.TestCase):
                 self.assertEqual(len(words), len(told[name]), name)
                 for word, values in zip(words, told[name]):
                     called, names = word[:-1].split("(")
-                    self.check(getattr(module, called), names.split(","), values)
+                    self.check(getattr(module, called), words_of(names), values)
 
     def check(self, work, names, values):
         self.assertEqual(len(names), len(values), work)
@@ -174,19 +197,59 @@ class NameTest(unittest.TestCase):
             self.assertEqual(shown(work(*values[:many], **rest)), plain, work)
 
     def test_methods(self):
-        oracle = Oracle(2, 2, 1, [4, 5, 6])
-        chain = Chain(2, 1, 4, (1, (1, 1)), (4, (1, 15)))
-        calls = {
-            "Table.blend": (least_table(2, 3), (1, 2)), "Oracle.case_answer": (oracle, ((0, 1), (0, 0))),
-            "Oracle.mixture_answer": (oracle, (1, (1, 1))), "Chain.mixture_after": (chain, 1), "Chain.jump_at": (chain, 0),
-            "Search.halved": (Search(chain, 0, 4), True), "Rack.blend": (Rack([least_table(2, 3)]), (1, 2)),
-        }
-        for kind, methods in METHODS.items():
-            for word in methods.split():
-                name, rest = word[:-1].split("(")
-                thing, *values = calls.pop(f"{kind.__name__}.{name}")
-                self.check(getattr(thing, name), rest.split(","), values)
-        self.assertEqual(calls, {})
+        for k in SIZES:
+            told = method_samples(k)
+            self.assertEqual(sorted(told), sorted(f"{kind.__name__}.{name}" for kind, name, _ in listed_methods()))
+            for kind, name, names in listed_methods():
+                for values in told[f"{kind.__name__}.{name}"]:
+                    # Yards and desks change, so that each call needs a new one.
+                    def work(*given, **named):
+                        thing = made(k, kind)
+                        return shown(getattr(thing, name)(*given, **named)), shown(thing)
+
+                    self.check(work, names, values)
+
+
+def listed_methods():
+    for kind, methods in METHODS.items():
+        for word in methods.split():
+            name, rest = word[:-1].split("(")
+            if not name.startswith("__"):
+                yield kind, name, words_of(rest)
+
+
+def made(k, kind):
+    """An object of a class, always the same."""
+    table = least_table(k, 3)
+    chain = Chain(k, 1, 4, (1, (1, k - 1)), (4, (1, k ** 4 - 1)))
+    if kind is Yard:
+        yard = Yard(table, [2, 1])
+        for i in (0, 1) * k:
+            yard.bring(i)
+        yard.blend(list(range(k)))
+        return yard
+    if kind is Desk:
+        desk = Desk()
+        desk.say(f"table {k} 1 0")
+        return desk
+    return {Table: table, Rack: Rack([table]), Oracle: Oracle(k, 2, 1, [4, 5, 6]), Chain: chain, Search: Search(chain, 0, 4)}[kind]
+
+
+def method_samples(k):
+    vats = list(range(k, 2 * k))
+    return {
+        "Table.blend": [((1,) * k,)], "Rack.blend": [([1] + [2] * (k - 1),)], "Oracle.case_answer": [(((0, 1), (0, 0)),)],
+        "Oracle.mixture_answer": [((1, (1, k - 1)),)], "Chain.mixture_after": [(1,)], "Chain.jump_at": [(0,)],
+        "Search.halved": [(True,), (False,)], "Yard.vats": [()], "Yard.bring": [(1,)], "Yard.blend": [(vats,)],
+        "Yard.pour": [(k,)], "Yard.label": [(2 * k,)], "Yard.mixture": [(2 * k,)], "Yard.recipe": [(2 * k,)], "Yard.stock": [()],
+        "Yard.relabel": [(first_table(k, 2), [1, 0])], "Yard.groups": [()], "Yard.unlike": [()], "Yard.undo": [()],
+        "Yard.within": [(first_vat,)], "Desk.say": [("bring 0",)],
+    }
+
+
+def first_vat(yard):
+    yard.bring(0)
+    return yard.vats()[0]
 
 
 if __name__ == "__main__":

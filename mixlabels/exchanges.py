@@ -2,7 +2,7 @@
 
 from mixlabels.arithmetic import power
 from mixlabels.errors import Refused
-from mixlabels.following import multipliers, sure_alike
+from mixlabels.following import multipliers
 from mixlabels.likenesses import is_within
 from mixlabels.mixtures import contained, counts_at, made_mixture
 from mixlabels.things import is_below, is_number, is_tuple
@@ -54,15 +54,11 @@ def exchanged(told, mixture, exchange):
 
 
 def passage(told, one, other):
-    if not sure_alike(told, one, other):
-        raise Refused(0)
     head, start = spread_out(told, one)
     ahead, end = spread_out(told, other)
     tail = tuple([(at, 1 - way, deep, times) for at, way, deep, times in reversed(ahead)])
     e, row = multipliers(told, start, end)
     total = sum([abs(number) for number in row])
-    if total == 0:
-        return tuple(head), 0, (), tail
     # All that a round takes is not more than what is there of each ingredient.
     deep = e
     fine = max(start[0], end[0])
@@ -119,6 +115,4 @@ def after_rounds(told, amounts, n, turn, rounds):
         return None
     # What is there changes evenly from round to round.
     last = [amount + (rounds - 1) * (behind - amount) for amount, behind in zip(amounts, first)]
-    if min(last) < 0:
-        return None
     return after_exchanges(told, last, n, turn)

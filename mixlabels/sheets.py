@@ -35,9 +35,7 @@ def is_asked(kind, value):
         return False
     if kind not in ("parting", "guide"):
         return True
-    if not is_naming(table, value[1]):
-        return False
-    return kind == "guide" or are_mixtures(table.k, len(value[1]), value[3:])
+    return is_naming(table, value[1]) and are_mixtures(table.k, len(value[1]), value[3:])
 
 
 def is_naming(table, value):

@@ -39,11 +39,9 @@ def ascending_only(rows):
 
 
 def is_worn_fault(table, value):
-    if not isinstance(value, tuple) or len(value) < 3 or not isinstance(value[0], str):
-        return False
-    if value[0] == "order":
-        return len(value) == 3 and is_order_fault(table, value[1], value[2])
-    if value[0] != "exchange" or len(value) != 4:
+    if is_tuple(value, 3) and value[0] == "order":
+        return is_order_fault(table, value[1], value[2])
+    if not is_tuple(value, 4) or value[0] != "exchange":
         return False
     _, one, other, rest = value
     if not are_cups(table, one) or not are_cups(table, other):

@@ -116,7 +116,7 @@ class Yard:
         found = {}
         for vat in self.vats():
             found.setdefault(self.labels[vat], []).append(vat)
-        return tuple(sorted([tuple(some) for some in found.values() if len(some) > 1]))
+        return tuple([tuple(some) for some in found.values() if len(some) > 1])
 
     def unlike(self):
         firsts = {}

@@ -181,6 +181,16 @@ class RackFaultTest(unittest.TestCase):
         ):
             self.assertIs(is_rack_fault(broken, value), False, value)
 
+    def test_no_rows_across_the_first_table(self):
+        # Rows and columns of the first table alone are told as its own fault.
+        for k in SIZES:
+            table = Table(k, 3, [cups[0] if len(set(cups)) == 1 else 2 - min(cups) for cups in itertools.product(range(3), repeat=k)])
+            word, rows = fault(table)
+            self.assertEqual(word, "grid")
+            rack = Rack([table] + [least_table(size, 3) for size in SIZES if size > k])
+            self.assertIs(is_rack_fault(rack, (0, ("grid", rows))), True)
+            self.assertIs(is_rack_fault(rack, (0, ("across", rows))), False)
+
     def test_changed_faults(self):
         rnd = generator(3)
         shown = set()
@@ -272,6 +282,7 @@ class OtherSizesTest(unittest.TestCase):
 
     def check(self, table, other, size):
         self.assertEqual((other.k, other.labels), (size, table.labels))
+        self.assertIs(other_table(table, table.k), table)
         self.assertEqual(other_table(other, table.k), table)
         if size == table.k:
             self.assertEqual(other, table)

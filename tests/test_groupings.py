@@ -10,7 +10,7 @@ from mixlabels.groupings import clash, classes_of, grouping_of, is_finer, is_gro
 from mixlabels.mending import is_mending, mended, mended_table, mends
 from mixlabels.mixtures import mixture_of
 from mixlabels.quotients import coarsest, mendings, parted
-from mixlabels.recipes import is_recipe, part, placed
+from mixlabels.recipes import depth, is_recipe, part, placed
 from mixlabels.tables import Table
 from mixlabels.tasting import label_of
 from mixlabels.telling import is_told_evidence, told_by_mixture, told_sets
@@ -199,20 +199,23 @@ class MendingTest(PlainTest):
                 self.assertIsNone(fault(mended_table(table)))
 
     def test_a_long_row_of_deep_pairs(self):
-        # 0 and 1 are one, as the cups 0 and 1 can be exchanged; each further label follows from the one before.
+        # 0 and 1 are one, and each further label follows from the one before; with twelve labels the last pair is 12 deep.
         for k in SIZES:
-            labels = most_labels(k)
+            top = most_labels(k) - 1
             results = []
-            for cups in itertools.product(range(labels), repeat=k):
-                low, high = min(cups), max(cups)
-                results.append(cups[0] if len(set(cups)) == 1 else low)
-            results = {cups: label for cups, label in zip(itertools.product(range(labels), repeat=k), results)}
-            for label in range(1, labels - 1):
-                results[(0,) * (k - 1) + (label,)] = label
-                results[(label + 1,) + (0,) * (k - 1)] = label + 1
-            table = Table(k, labels, list(results.values()))
+            for cups in itertools.product(range(top + 1), repeat=k):
+                results.append(min(cups) + 1 if cups.count(top) == k - 1 else min(cups))
+            table = Table(k, top + 1, results)
             grouping, pairs = mended(table)
+            self.assertEqual(grouping, (0,) * (top + 1))
             self.check_pairs(table, grouping, pairs)
+            self.assertGreaterEqual(max(depth(recipe) for pair in pairs for recipe in pair), top + 1)
+            self.assertIs(is_mending(table, (grouping, pairs)), True)
+            for one, other in ((0, top), (top, 0), (top - 1, 1)):
+                evidence = forced(table, one, other)
+                self.assertEqual(evidence[0], "row")
+                self.assertIs(is_forced_evidence(table, one, other, evidence), True)
+            self.assertIs(is_told_evidence(table, [top], told_by_mixture(table, [top])), True)
 
     def test_one_label_and_twelve(self):
         for k in SIZES:
@@ -236,7 +239,7 @@ class MendingTest(PlainTest):
         self.assertIs(is_mending(table, (grouping, (pair,))), True)
         for value in ODD + (
             [grouping, (pair,)], (grouping,), (grouping, (pair,), 0), (list(grouping), (pair,)), (grouping, [pair]), (grouping, (list(pair),)),
-            (grouping, ()), ((0, 1, 2), ()), ((0, 0, 0), (pair,)), ((0, 0, 0), (pair, ((0, 2), (0, 2)))), ((0, 1, 1), (pair,)), ((0, 0), (pair,)),
+            (grouping, ()), ((0, 1, 2), ()), ((0, 0, 0), (pair,)), ((0, 0, True), (pair,)), ((0, 0, 0), (pair, ((0, 2), (0, 2)))), ((0, 1, 1), (pair,)), ((0, 0), (pair,)),
             ((1, 1, 0), (pair,)), (grouping, (pair, (0, 1))), (grouping, (pair, (0,))), (grouping, (pair, (0, 0, 0))), (grouping, (pair, None)),
             (grouping, (pair, (0, (0, 3)))), (grouping, (pair, (0, [0, 0]))), (grouping, (pair, (0, (0, 0, 0)))), (grouping, None), (None, (pair,)),
             (grouping, deep_value(40)), deep_value(60), (grouping, (((0, 1), (True, 0)),)), (grouping, (((0, 1), (1, 1)),)), (grouping, (pair, (1, 0))),

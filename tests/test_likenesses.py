@@ -293,6 +293,7 @@ class FollowingTest(unittest.TestCase):
         self.assertIs(is_multipliers(other_told, (1, (1, 0, 1)), (1, (0, 1, 1)), (0, (0, 1))), True)
         apart = Likenesses(2, 3, [((1, (1, 1, 0)), (2, (1, 3, 0)))])
         self.assertIs(is_multipliers(apart, (0, (0, 1, 0)), (2, (1, 3, 0)), (0, (-1,))), False)
+        self.assertIs(is_multipliers(apart, (2, (1, 3, 0)), (0, (0, 1, 0)), (0, (1,))), False)
 
 
 class ExchangeTest(unittest.TestCase):
@@ -355,6 +356,14 @@ class ExchangeTest(unittest.TestCase):
             self.assertEqual(error_of(exchanged, told, mixture, value), ("Refused", 0), value)
             for parts in (((value,), 1, (), ()), ((), 1, (value,), ()), ((), 0, (value,), ()), ((), 1, (), (value,))):
                 self.assertIs(is_passage(told, mixture, (0, (0, 1)), parts), False, value)
+
+    def test_no_times(self):
+        # Nothing would be lacking here, but an exchange is made once at least.
+        told = Likenesses(2, 2, [((0, (1, 0)), (0, (1, 0)))])
+        for deep in (0, 1, 1000):
+            self.assertEqual(error_of(exchanged, told, (0, (1, 0)), (0, 0, deep, 0)), ("Refused", 0))
+            self.assertIs(is_passage(told, (0, (1, 0)), (0, (1, 0)), (((0, 0, deep, 0),), 0, (), ())), False)
+            self.assertIs(is_passage(told, (0, (1, 0)), (0, (1, 0)), (((0, 0, deep, 1),), 0, (), ())), True)
 
     def test_any_passage(self):
         told = Likenesses(2, 2, [((0, (1, 0)), (0, (0, 1)))])

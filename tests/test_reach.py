@@ -4,6 +4,7 @@ import itertools
 import unittest
 from fractions import Fraction
 
+from mixlabels.bars import Opening
 from mixlabels.reach import is_reach, reach
 from mixlabels.tables import Table
 from mixlabels.trades import is_trade
@@ -239,6 +240,44 @@ class IsReachTest(unittest.TestCase):
         )
         for steps in same:
             self.assertIs(is_reach(table, stock, prices, (word, triple, steps)), True, steps)
+
+
+    def test_labels_that_are_no_goods(self):
+        # A label more, which nothing is blended to and nobody has: it is no good, and its numbers do not matter.
+        for k, results, stock, prices, words in RARE:
+            labels = len(stock)
+            more = [results[a * labels + b] if a < labels and b < labels else 0 for a in range(labels + 1) for b in range(labels + 1)]
+            table, stock, prices = Table(k, labels + 1, more), stock + [0], prices + [1000]
+            word, triple, bar = reach(table, stock, prices)
+            self.assertEqual([step[0] for step in bar], words)
+            for at in range(len(bar)):
+                for step in (("never", (labels,)), ("stuck", (labels,))):
+                    self.assertIs(is_reach(table, stock, prices, (word, triple, bar[:at] + (step,) + bar[at:])), False)
+                name, told = bar[at]
+                if name == "scale":
+                    for number in (77, -3):
+                        step = (name, told[:labels] + (number,))
+                        self.assertIs(is_reach(table, stock, prices, (word, triple, bar[:at] + (step,) + bar[at + 1:])), True)
+
+    def test_steps_alone(self):
+        for k in SIZES:
+            table = Table(k, 3, [1 if 1 in cups else min(cups) for cups in itertools.product(range(3), repeat=k)])
+            # 0 is in stock and an end; 1 is neither, 2 is no good.
+            opening = Opening(table, ((1, 1), (0, 1), (0, 1)), (0, -1, 5), ((0, 1), None, None))
+            self.assertEqual((opening.goods, opening.ends), ((0,), [0]))
+            for numbers, fits in (((0, 0, 0), True), ((0, 9, -9), True), ((1, 0, 0), False), ((-1, 0, 0), False), ((2, 0, 0), False)):
+                self.assertIs(opening.fits(("scale", numbers)), fits)
+            for told, fits in (((), True), ((0,), False), ((1,), False), ((2,), False), ((True,), False), ((False,), False)):
+                self.assertIs(opening.fits(("never", told)), fits)
+                self.assertIs(opening.fits(("stuck", told)), fits)
+            # Now 1 is in stock, too, and no end, and each blend with it comes to it.
+            opening = Opening(table, ((1, 1), (2, 1), (0, 1)), (0, -1, 5), ((0, 1), (0, 1), None))
+            self.assertEqual((opening.goods, opening.ends), ((0, 1), [0]))
+            self.assertIs(opening.fits(("stuck", (1,))), True)
+            self.assertIs(opening.fits(("stuck", (True,))), False)
+            self.assertIs(opening.fits(("scale", (1, 0, 0))), False)
+            self.assertIs(opening.fits(("scale", (0, -1, 0))), True)
+            self.assertIs(opening.fits(("scale", (1, -1, 0))), True)
 
 
 def changed_reach(rnd, table, told):

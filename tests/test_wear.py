@@ -86,6 +86,17 @@ def drawn_table(rnd, k):
     return Table(k, table.labels, results)
 
 
+def sums_error(sums, shift):
+    labels = range(len(sums))
+    if any(sums[a][b] != sums[b][a] for a in labels for b in labels):
+        return "Refused", 0
+    if any(sums[sums[a][b]][c] != sums[a][sums[b][c]] for a in labels for b in labels for c in labels):
+        return "Refused", 0
+    if any(shift[sums[a][b]] != sums[shift[a]][shift[b]] for a in labels for b in labels):
+        return "Refused", 1
+    return None
+
+
 class WornTest(unittest.TestCase):
     def test_drawn_tables(self):
         rnd = generator(1)
@@ -157,6 +168,16 @@ class WornTest(unittest.TestCase):
             self.assertIsNone(worn_fault(least_table(k, most_labels(k))))
             self.assertEqual(worn_fault(first_table(k, 2)), plain_order(first_table(k, 2)))
 
+    def test_any_exchange(self):
+        rnd = generator(9)
+        for k in SIZES:
+            for _ in range(200):
+                table = random_table(rnd, k, rnd.randrange(2, 4))
+                one, other = (tuple(rnd.randrange(table.labels) for _ in range(k)) for _ in range(2))
+                rest = tuple(rnd.randrange(table.labels) for _ in range(k - 2))
+                shows = exchange_changes(table, one, other, rest)
+                self.assertIs(is_worn_fault(table, ("exchange", one, other, rest)), shows)
+
     def test_any_fault(self):
         rnd = generator(4)
         for k in SIZES:
@@ -223,6 +244,27 @@ class ShiftTest(unittest.TestCase):
             self.assertEqual(error_of(shift_table, k, cyclic(3), [0, 2, 2]), ("Refused", 1))
             self.assertEqual(error_of(shift_table, k, [[0, 0], [0, 1]], [1, 0]), ("Refused", 1))
             self.assertIsNone(error_of(shift_table, k, cyclic(3), [0, 2, 1]))
+            # Too many labels go ahead of sums that do not fit.
+            wrong = [[0] * (most + 1) for _ in range(most)] + [[1] * (most + 1)]
+            self.assertEqual(error_of(shift_table, k, wrong, [0] * (most + 1)), ("InvalidTable", 0))
+
+    def test_any_sums(self):
+        rnd = generator(10)
+        outcomes = {None: 0, ("Refused", 0): 0, ("Refused", 1): 0}
+        for _ in range(3000):
+            k, n = rnd.choice(SIZES), rnd.choice((2, 3, 3))
+            sums, shift = [list(row) for row in rnd.choice((cyclic(n), [[0] * n] * n, [[max(a, b) for a in range(n)] for b in range(n)]))], [0] * n
+            for _ in range(rnd.randrange(2)):
+                a, b, c = (rnd.randrange(n) for _ in range(3))
+                sums[a][b] = c
+                if rnd.random() < 0.7:
+                    sums[b][a] = c
+            for _ in range(rnd.randrange(3)):
+                shift[rnd.randrange(n)] = rnd.randrange(n)
+            found = error_of(shift_table, k, sums, shift)
+            self.assertEqual(found, sums_error(sums, shift), (sums, shift))
+            outcomes[found] += 1
+        self.assertGreater(min(outcomes.values()), 100)
 
     def test_facts_told_by_leaves(self):
         rnd = generator(6)

@@ -1,6 +1,7 @@
 """What is open in a stock of goods, and the steps that show why its greatest worth is not reached."""
 
 from mixlabels.costs import extra, whole
+from mixlabels.questions import weighed
 from mixlabels.tables import blend_label
 from mixlabels.things import are_below, is_ascending, is_integer, is_tuple, tuples_of
 from mixlabels.worth import goods_of
@@ -11,7 +12,7 @@ class Opening:
 
     def __init__(self, table, amounts, prices, limits):
         self.table = table
-        self.stock = [amount[0] for amount in amounts]
+        self.held = [amount[0] for amount in amounts]
         self.goods = goods_of(table, amounts)
         self.ends = [good for good in self.goods if limits[good] == (prices[good], 1)]
         numbers = whole([(0, 1) if limit is None else limit for limit in limits])[0]
@@ -33,7 +34,7 @@ class Opening:
         return word == "stuck" and self.fits_stuck(told)
 
     def fits_never(self, labels):
-        if any([self.stock[label] > 0 for label in labels]):
+        if any([self.held[label] > 0 for label in labels]):
             return False
         return all([has_cup(cups, labels) for cups in self.lots if blend_label(self.table, cups) in labels])
 
@@ -50,13 +51,13 @@ class Opening:
         return all([extra(self.table, numbers, cups) >= 0 for cups in self.lots])
 
     def weighs(self, numbers):
-        return sum([many * number for many, number in zip(self.stock, numbers)])
+        return weighed(numbers, self.held)
 
     def is_last(self, step):
         """Whether a step that fits shows that there is no trade."""
         word, told = step
         if word == "stuck":
-            return any([self.stock[label] > 0 for label in told])
+            return any([self.held[label] > 0 for label in told])
         return word == "scale" and self.weighs(told) < 0
 
     def take(self, step):

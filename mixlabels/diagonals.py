@@ -21,7 +21,7 @@ class Diagonal:
         while len(left) > 0:
             _, r, c = min(left)
             self.to_front(at, r, c)
-            if self.clear(at, many):
+            if self.clears(at, many):
                 return True
             left = self.left_over(at, many)
         return False
@@ -37,7 +37,7 @@ class Diagonal:
         for row in self.rows + self.right:
             row[at], row[c] = row[c], row[at]
 
-    def clear(self, at, many):
+    def clears(self, at, many):
         """Takes the first row and column from the others: whether nothing was left that it does not divide."""
         here = self.rows[at][at]
         for r in range(at + 1, len(self.rows)):

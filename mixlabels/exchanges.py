@@ -8,7 +8,7 @@ from mixlabels.mixtures import contained, counts_at, made_mixture
 from mixlabels.things import is_below, is_number, is_tuple
 
 DEEPEST_EXCHANGE = 1000
-MOST_TIMES = 10 ** 300
+MOST_TIMES = (10 ** 60) ** 5
 
 
 def is_exchange(told, value):

@@ -36,16 +36,16 @@ class ClassRows:
     """The classes of sure alike mixtures, if they are few: for each one integers that are like its shares."""
 
     def __init__(self, told):
-        self.told = told
+        self.likenesses = told
         self.foldings = {some: Folding(told, some) for some in sealed_sets(told)}
         self.rows = []
         self.labels = {}
         for some in self.foldings:
-            self.find(some)
+            self.note(some)
 
-    def find(self, some):
+    def note(self, some):
         """Notes all classes with this sealing, beginning with its first ingredient alone."""
-        units = unit_rows(self.told.ingredients)
+        units = unit_rows(self.likenesses.ingredients)
         waiting = [units[some[0]]]
         while len(waiting) > 0:
             row = waiting.pop()
@@ -60,11 +60,12 @@ class ClassRows:
         return some, self.foldings[some].marks([row[i] for i in some[1:]], n)
 
     def blend(self, cups):
+        rows = [self.rows[cup] for cup in cups]
         within = ()
-        for cup in cups:
-            within = within + self.rows[cup][0]
-        some = sealed_around(self.told, tuple(sorted(set(within))))
-        sums = [sum([self.rows[cup][1][i] for cup in cups]) for i in range(self.told.ingredients)]
+        for inner, _ in rows:
+            within = within + inner
+        some = sealed_around(self.likenesses, tuple(sorted(set(within))))
+        sums = [sum([row[i] for _, row in rows]) for i in range(self.likenesses.ingredients)]
         return self.labels[self.key(some, sums, 1)]
 
 

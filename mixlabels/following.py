@@ -5,6 +5,7 @@ from mixlabels.errors import Refused
 from mixlabels.foldings import Folding, mixture_key
 from mixlabels.likenesses import is_within, sealing
 from mixlabels.mixtures import counts_at
+from mixlabels.questions import weighed
 from mixlabels.things import is_integer, is_number, is_tuple
 
 MOST_DIVIDED = 60
@@ -19,10 +20,10 @@ def multipliers(told, one, other):
         raise Refused(0)
     folding = Folding(told, sealing(told, one))
     n = max(one[0], other[0], folding.depth)
-    difference = folding.difference(one, other, n)
+    change = folding.change(one, other, n)
     # The unknowns times k ** (n - depth), told by the numbers of the diagonal.
     diagonal = folding.diagonal
-    sums = [sum([value * number for value, number in zip(row, difference)]) for row in diagonal.left]
+    sums = [weighed(row, change) for row in diagonal.left]
     e = 0
     scale = power(told.k, n - folding.depth)
     while any([total * power(told.k, e) % (number * scale) != 0 for total, number in zip(sums, diagonal.numbers)]):
@@ -32,7 +33,7 @@ def multipliers(told, one, other):
         values.append(sums[at] * power(told.k, e) // (diagonal.rows[at][at] * scale))
     row = [0] * len(told)
     for at, steps in zip(folding.indexes, diagonal.right):
-        row[at] = sum([step * value for step, value in zip(steps, values)])
+        row[at] = weighed(steps, values)
     return e, tuple(row)
 
 

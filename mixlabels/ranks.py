@@ -33,7 +33,7 @@ class Ranking:
             found[rest[0]] += ways
         return found
 
-    def at(self, weights, deep, index):
+    def recipe_with(self, weights, deep, index):
         """The recipe that is filled up with this index, and what is left of the index."""
         if deep == 0:
             left = index
@@ -45,7 +45,7 @@ class Ranking:
         labels = ()
         left = index
         for _ in range(self.table.k):
-            cup, left = self.at(self.weights_of_cup(weights, deep, labels), deep - 1, left)
+            cup, left = self.recipe_with(self.weights_of_cup(weights, deep, labels), deep - 1, left)
             cups = cups + (cup,)
             labels = labels + (taste(self.table, self.naming, cup, []),)
         return cups, left
@@ -71,7 +71,7 @@ def full_at(table, naming, depth, label, index):
     many = ranking.counts[depth][label]
     if index >= many:
         raise Refused(many)
-    return ranking.at(label_alone(table, label), depth, index)[0]
+    return ranking.recipe_with(label_alone(table, label), depth, index)[0]
 
 
 def rank_of(table, naming, recipe):

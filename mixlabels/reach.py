@@ -45,7 +45,7 @@ def closing_step(opening):
 
 def coming(opening):
     """The goods that open throws can make out of the stock."""
-    known = [good for good in opening.goods if opening.stock[good] > 0]
+    known = [good for good in opening.goods if opening.held[good] > 0]
     before = -1
     while before < len(known):
         before = len(known)
@@ -74,7 +74,7 @@ def flow_or_scale(opening):
     table, goods = opening.table, opening.goods
     inner = [i for i, good in enumerate(goods) if good not in opening.ends]
     columns = [both_ways(taken(table, goods, cups), inner) for cups in lots]
-    columns.append(both_ways([-opening.stock[good] for good in goods], inner))
+    columns.append(both_ways([-opening.held[good] for good in goods], inner))
     # One more of each throw, of the stock and of each end.
     one_more = [sum([column[i] for column in columns]) for i in range(len(goods) + len(inner) + 1)]
     for i in range(len(goods)):

@@ -19,6 +19,8 @@ BUILTIN_METHODS = set(
     "setdefault split splitlines startswith strip update upper values zfill bit_length".split()
 )
 DUNDERS = {"__init__", "__eq__", "__repr__", "__str__", "__len__"}
+# What builtin values have: no method and no attribute of the package is called so.
+OF_VALUES = {name for kind in (str, int, list, tuple, dict, set, bytes) for name in dir(kind)}
 NOWHERE = set("register mro elements open input law version_info with_traceback add_note".split())
 BARRED_WORDS = (
     r"\b(type|typing|typing_extensions|enum|Enum|IntEnum|StrEnum|Flag|IntFlag|Generic|Protocol|ABC|ABCMeta|"
@@ -143,7 +145,7 @@ class File:
 
     def check_power(self, node):
         if isinstance(node, ast.BinOp) and isinstance(node.op, ast.Pow):
-            if not isinstance(node.right, ast.Constant):
+            if not isinstance(node.right, ast.Constant) or not 0 <= node.right.value <= 64:
                 self.tell(node, "power")
 
     def check_call(self, node):
@@ -229,6 +231,8 @@ class File:
             self.tell(node, f"method {node.attr}")
         if not called and node.attr not in self.defined["attributes"]:
             self.tell(node, f"attribute {node.attr} is never assigned")
+        if not isinstance(node.ctx, ast.Load) and node.attr in OF_VALUES | self.defined["methods"]:
+            self.tell(node, f"attribute {node.attr} has the name of a method")
 
     def check_class(self, node):
         if not isinstance(node, ast.ClassDef):
@@ -239,6 +243,8 @@ class File:
             is_text = isinstance(inner, ast.Expr) and isinstance(inner.value, ast.Constant)
             if not isinstance(inner, ast.FunctionDef) and not is_text:
                 self.tell(inner, "body of a class")
+            if isinstance(inner, ast.FunctionDef) and inner.name in OF_VALUES - DUNDERS:
+                self.tell(inner, f"method {inner.name} has the name of a method of builtin values")
 
     def check_function(self, node):
         if node.end_lineno - node.lineno + 1 > 40:

@@ -63,6 +63,8 @@ class LanguageTest(unittest.TestCase):
             "def f(n):\n    for x in n:\n        n.append(x)", "def f():\n    raise KeyError(1)",
             "def f(n):\n    return pow(n, 2, 3)", "def f(n):\n    return n.format()", "def f(n):\n    return set(n)",
             "from math import gcd\ndef f(gcd):\n    return gcd", "def f():\n    return 1.5",
+            "NUMBER = 10 ** 300", "class A:\n    def difference(self):\n        return 1",
+            "class A:\n    def __init__(self):\n        self.items = 1",
         ]
         for source in wrong:
             self.assertNotEqual(breaches("wrong.py", source, defined), [], source)

@@ -44,7 +44,7 @@ class Diagonal:
             self.take_row(r, at, self.rows[r][at] // here)
         for c in range(at + 1, many):
             self.take_column(c, at, self.rows[at][c] // here)
-        if any([row[at] != 0 for row in self.rows[at + 1:]]) or any([value != 0 for value in self.rows[at][at + 1:]]):
+        if any([value != 0 for value in self.rows[at][at + 1:]]):
             return False
         for r in range(at + 1, len(self.rows)):
             if any([value % here != 0 for value in self.rows[r]]):

@@ -1,11 +1,11 @@
 """The finest book that keeps what is told, and the classes of mixtures that it tells apart."""
 
+from mixlabels.arithmetic import power
 from mixlabels.errors import Refused
 from mixlabels.following import sure_alike
 from mixlabels.foldings import Folding, mixture_key
 from mixlabels.lattices import unit_rows
 from mixlabels.likenesses import Likenesses, is_sealed, sealed_around, sealed_sets
-from mixlabels.mixtures import is_mixture
 from mixlabels.tables import Table, fits
 from mixlabels.things import are_below, is_ascending, tuples_below
 
@@ -83,15 +83,13 @@ def finest_book(told):
 
 def first_alike(told, mixture):
     key = mixture_key(told, mixture)
-    total = 1
-    # The mixture is alike itself, so that no later one is looked at.
-    for n in range(mixture[0] + 1):
-        for counts in rows_with_sum(total, told.ingredients):
-            found = (n, counts)
-            if is_mixture(told.k, told.ingredients, found) and mixture_key(told, found) == key:
-                return found
-        total = total * told.k
-    return mixture
+    n = 0
+    # The mixture is alike itself, so that one is found; and what is no mixture has the shares of an earlier one.
+    while True:
+        for counts in rows_with_sum(power(told.k, n), told.ingredients):
+            if mixture_key(told, (n, counts)) == key:
+                return n, counts
+        n += 1
 
 
 def rows_with_sum(total, many):

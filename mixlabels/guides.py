@@ -16,17 +16,15 @@ def is_guide(table, naming, value):
 
 
 def is_way(table, naming, label, guide):
-    """Whether what a guide tells for a label makes it, by an ingredient or by labels of the guide."""
+    """Whether what a guide tells for a label makes it, by an ingredient or by a blend."""
     way = guide[label]
     if is_below(way, len(naming)):
         return naming[way] == label
-    if not is_tuple(way, table.k) or not are_below(way, table.labels):
-        return False
-    return all([cup in guide for cup in way]) and blend_label(table, way) == label
+    return is_tuple(way, table.k) and are_below(way, table.labels) and blend_label(table, way) == label
 
 
 def all_end(guide):
-    """Whether no label is come back to."""
+    """Whether no label is come back to, and none is come to that has no way."""
     ended = {}
     before = -1
     while before < len(ended):

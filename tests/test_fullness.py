@@ -88,6 +88,20 @@ class LabelsTest(unittest.TestCase):
             self.assertEqual(course(round_about, [0]), (tuple((label,) for label in range(labels)), 0))
             self.assertEqual(full_labels(round_about, [0], 10 ** 18), (10 ** 18 % labels,))
 
+    def test_a_way_into_a_circle(self):
+        for k in SIZES:
+            labels = most_labels(k)
+            for start in range(labels):
+                after = list(range(1, labels)) + [start]
+                table = Table(k, labels, [after[cups[0]] for cups in itertools.product(range(labels), repeat=k)])
+                self.assertEqual(course(table, [0]), (tuple((label,) for label in range(labels)), start))
+                label = 0
+                for depth in range(3 * labels):
+                    self.assertEqual(full_labels(table, [0], depth), (label,))
+                    label = after[label]
+                far = 10 ** 18
+                self.assertEqual(full_labels(table, [0], far), (start + (far - start) % (labels - start),))
+
 
 class CountsTest(unittest.TestCase):
     def test_sums_and_remainders(self):

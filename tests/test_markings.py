@@ -10,7 +10,7 @@ from mixlabels.following import sure_alike
 from mixlabels.hints import cells_told, same_labels, sure_result
 from mixlabels.likenesses import Likenesses, book_label, broken, sealed_sets, sealing
 from mixlabels.markings import is_marking, least_marking, marked, marking_book, marks_apart
-from mixlabels.mixtures import contained, is_mixture, made_mixture
+from mixlabels.mixtures import contained, counts_at, is_mixture, made_mixture
 from tests.faithful import drawn_faithful
 from tests.helpers import (
     NO_SEQUENCES, ODD, SIZES, all_mixtures, all_rows, deep_value, error_of, generator, moduli_of, most_labels,
@@ -43,6 +43,47 @@ def drawn_marking(rnd, k, ingredients, most=30):
     within = tuple(sorted(rnd.sample(range(ingredients), rnd.randrange(1, ingredients + 1))))
     modulus = rnd.choice(moduli_of(k, most))
     return within, modulus, tuple(rnd.randrange(modulus) for _ in within)
+
+
+def plain_form(told, some):
+    """The rank and the orders by the greatest common divisors of all minors of one size."""
+    pairs = [pair for pair in told.pairs if set(contained(pair[0])) <= set(some)]
+    n = max([mixture[0] for pair in pairs for mixture in pair], default=0)
+    rows = [[a - b for a, b in zip(*(counts_at(told.k, mixture, n) for mixture in pair))] for pair in pairs]
+    rows = [[row[i] for i in some[1:]] for row in rows]
+    wide = len(some) - 1
+    orders, before = [], 1
+    for many in range(1, min(wide, len(rows)) + 1):
+        both = 0
+        for chosen in itertools.combinations(rows, many):
+            for places in itertools.combinations(range(wide), many):
+                both = math.gcd(both, determinant([[row[i] for i in places] for row in chosen]))
+        if both == 0:
+            break
+        orders.append(both // before)
+        before = both
+    rank = wide - len(orders)
+    while any(math.gcd(order, told.k) > 1 for order in orders):
+        orders = [order // math.gcd(order, told.k) for order in orders]
+    return rank, tuple(order for order in orders if order > 1)
+
+
+def determinant(rows):
+    if not rows:
+        return 1
+    return sum((-1) ** c * rows[0][c] * determinant([row[:c] + row[c + 1:] for row in rows[1:]]) for c in range(len(rows)))
+
+
+# Told pairs with a finest book in which several sealed sets have more than one class.
+SEVERAL = (
+    (3, 3, [((0, (1, 0, 0)), (1, (2, 0, 1))), ((2, (0, 4, 5)), (0, (0, 0, 1)))], 9),
+    (2, 3, [((3, (0, 5, 3)), (0, (0, 0, 1))), ((1, (1, 0, 1)), (0, (1, 0, 0)))], 11),
+    (2, 4, [((2, (0, 0, 3, 1)), (0, (0, 0, 0, 1))), ((1, (1, 1, 0, 0)), (2, (0, 2, 1, 1))), ((1, (0, 1, 1, 0)), (0, (1, 0, 0, 0)))], 8),
+    (2, 4, [((2, (0, 0, 3, 1)), (0, (0, 0, 0, 1))), ((1, (0, 1, 1, 0)), (0, (0, 1, 0, 0))), ((0, (1, 0, 0, 0)), (2, (2, 1, 0, 1)))], 11),
+    (3, 4, [((1, (1, 1, 0, 1)), (0, (1, 0, 0, 0))), ((1, (0, 1, 2, 0)), (0, (0, 1, 0, 0))), ((1, (1, 1, 0, 1)), (2, (2, 4, 2, 1))),
+            ((0, (0, 0, 0, 1)), (3, (11, 7, 5, 4)))], 8),
+    (4, 2, [((0, (0, 1)), (1, (3, 1)))], 4), (5, 2, [((0, (0, 1)), (1, (2, 3)))], 3), (5, 2, [((1, (3, 2)), (0, (1, 0)))], 3),
+)
 
 
 def two_alike(k, n, order):
@@ -186,6 +227,40 @@ class FinestTest(unittest.TestCase):
                         if d ** len(some) < 2000:
                             self.check_markings(told, some, d, d ** rank * math.prod(math.gcd(order, d) for order in orders))
 
+    def test_forms_by_minors(self):
+        rnd = generator(9)
+        for k in SIZES:
+            for _ in range(40):
+                told = drawn_told(rnd, k)
+                for some in sealed_sets(told):
+                    self.assertEqual(sure_form(told, some), plain_form(told, some))
+            shown = set()
+            for _ in range(60):
+                # Each further ingredient is exchanged for the first one, so many parts of it at once.
+                m = rnd.randrange(3, 6)
+                n = DEEPEST[k]
+                pairs = []
+                for i in range(1, m):
+                    many = rnd.randrange(1, k ** n)
+                    counts = [k ** n - many] + [many if j == i else 0 for j in range(1, m)]
+                    pairs.append([made_mixture(k, n, counts), (0, (1,) + (0,) * (m - 1))])
+                told = Likenesses(k, m, pairs)
+                form = sure_form(told, tuple(range(m)))
+                self.assertEqual(form, plain_form(told, tuple(range(m))))
+                shown.add(len(form[1]))
+            self.assertGreater(len(shown), 1)
+
+    def test_orders_divide_one_another(self):
+        pure = (0, (1, 0, 0))
+        told = Likenesses(5, 3, [((1, (3, 2, 0)), pure), ((1, (2, 0, 3)), pure)])
+        self.assertEqual(sure_form(told, (0, 1, 2)), (0, (6,)))
+        told = Likenesses(5, 3, [((1, (1, 4, 0)), pure), ((2, (19, 0, 6)), pure)])
+        self.assertEqual(sure_form(told, (0, 1, 2)), (0, (2, 12)))
+        told = Likenesses(2, 3, [((4, (13, 3, 0)), pure), ((4, (1, 0, 15)), pure)])
+        self.assertEqual(sure_form(told, (0, 1, 2)), (0, (3, 15)))
+        told = Likenesses(2, 3, [((4, (11, 5, 0)), pure), ((4, (13, 0, 3)), pure)])
+        self.assertEqual(sure_form(told, (0, 1, 2)), (0, (15,)))
+
     def check_markings(self, told, some, d, wanted):
         """As many markings of the set give told pairs one mark, the first value being 0, as the form has maps."""
         pairs = [pair for pair in told.pairs if set(contained(pair[0])) <= set(some)]
@@ -231,6 +306,7 @@ class FinestTest(unittest.TestCase):
 
     def check_book(self, told, many, table, naming):
         self.assertEqual((table.k, table.labels, len(naming)), (told.k, many, told.ingredients))
+        self.assertIsInstance(naming, tuple)
         self.assertIsNone(fault(table))
         self.assertIsNone(broken(told, table, naming))
         found = {}
@@ -239,6 +315,12 @@ class FinestTest(unittest.TestCase):
             self.assertIs(sure_alike(told, mixture, found.setdefault(label, mixture)), True)
         for one, other in itertools.combinations(found.values(), 2):
             self.assertIs(sure_alike(told, one, other), False)
+
+    def test_books_of_several_sealed_sets(self):
+        for k, m, pairs, many in SEVERAL:
+            told = Likenesses(k, m, pairs)
+            self.assertEqual(class_count(told), many)
+            self.check_book(told, many, *finest_book(told))
 
     def test_all_classes_have_mixtures(self):
         for k in SIZES:

@@ -240,7 +240,8 @@ class IsReachTest(unittest.TestCase):
         )
         for steps in same:
             self.assertIs(is_reach(table, stock, prices, (word, triple, steps)), True, steps)
-
+        for other in ("reached", "near", "nearedx", "", None, True, b"neared", ("neared",), deep_value(40)):
+            self.assertIs(is_reach(table, stock, prices, (other, triple, bar)), False, other)
 
     def test_labels_that_are_no_goods(self):
         # A label more, which nothing is blended to and nobody has: it is no good, and its numbers do not matter.

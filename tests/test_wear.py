@@ -208,6 +208,14 @@ class WornTest(unittest.TestCase):
                 for i in range(k - 1):
                     changed = cups[:i] + (cups[i + 1], cups[i]) + cups[i + 2:]
                     self.assertIs(is_worn_fault(table, ("order", cups, i)), table.blend(cups) != table.blend(changed))
+            # Whatever shows a fault has to bear its name.
+            broken = first_table(k, 2)
+            cups = (0,) + (1,) * (k - 1)
+            self.assertIs(is_worn_fault(broken, ("order", cups, 0)), True)
+            for word in ("exchange", "same", "grid", "orde", "Order", "", None, b"order", 0, ("order",), True):
+                self.assertIs(is_worn_fault(broken, (word, cups, 0)), False, word)
+                if word != "exchange":
+                    self.assertIs(is_worn_fault(table, (word, one, other, rest)), False, word)
 
 
 class ShiftTest(unittest.TestCase):

@@ -62,6 +62,16 @@ def inverse(number, modulus):
     return one % modulus
 
 
+def without_divisors(k, number):
+    """The number without all that it has in common with powers of k."""
+    left = number
+    both = gcd(left, k)
+    while both > 1:
+        left = left // both
+        both = gcd(left, k)
+    return left
+
+
 def joint_remainder(one, modulus, other, other_modulus):
     """The least number with both remainders, which are alike modulo what divides both moduli."""
     both = gcd(modulus, other_modulus)

@@ -1,8 +1,8 @@
 """Bowl stories: labels do not tell whether a bowl was needed."""
 
 from mixlabels.across import mixed_taste
-from mixlabels.errors import InvalidRecipe, Refused
-from mixlabels.mixed import checked_mixed, is_made_of, mixed_shares
+from mixlabels.errors import Refused
+from mixlabels.mixed import is_made_of, is_mixed, mixed_shares
 from mixlabels.things import is_tuple
 
 
@@ -35,14 +35,6 @@ def is_bowl_story(rack, naming, k, value):
     if mixed_taste(rack, names, value[0]) != mixed_taste(rack, names, value[1]):
         return False
     return can_be_made(k, one) and not can_be_made(k, other)
-
-
-def is_mixed(sizes, ingredients, value):
-    try:
-        checked_mixed(sizes, ingredients, value)
-    except InvalidRecipe:
-        return False
-    return True
 
 
 def can_be_made(k, shares):

@@ -1,8 +1,6 @@
 """What is the same in all mixtures of one sealing that are sure alike."""
 
-from math import gcd
-
-from mixlabels.arithmetic import inverse, power, power_modulo
+from mixlabels.arithmetic import inverse, power, power_modulo, without_divisors
 from mixlabels.diagonals import Diagonal
 from mixlabels.likenesses import is_within, sealing
 from mixlabels.mixtures import counts_at
@@ -46,16 +44,6 @@ class Folding:
         """The same for two mixtures within the set exactly if they differ by told pairs."""
         n, counts = mixture
         return self.marks([counts[i] for i in self.some[1:]], n)
-
-
-def without_divisors(k, number):
-    """The number without all that it has in common with powers of k."""
-    left = number
-    both = gcd(left, k)
-    while both > 1:
-        left = left // both
-        both = gcd(left, k)
-    return left
 
 
 def mixture_key(told, mixture):

@@ -1,7 +1,6 @@
 """Integer equations, solved in integers divided by powers of k."""
 
-from math import gcd
-
+from mixlabels.arithmetic import without_divisors
 from mixlabels.ratios import less, made, times
 
 
@@ -65,12 +64,7 @@ def unit_rows(many):
 
 def divides_power(k, number):
     """Whether a number divides some power of k."""
-    left = number
-    both = gcd(left, k)
-    while both > 1:
-        left = left // both
-        both = gcd(left, k)
-    return left == 1
+    return without_divisors(k, number) == 1
 
 
 def determinant(rows):

@@ -2,26 +2,22 @@
 
 from math import gcd, lcm
 
-from mixlabels.arithmetic import inverse
+from mixlabels.arithmetic import inverse, without_divisors
 from mixlabels.errors import InvalidRecipe, Refused
 from mixlabels.ratios import added, is_fraction, less
-from mixlabels.recipes import DEEPEST, MOST_INGREDIENTS
-from mixlabels.things import is_below
+from mixlabels.recipes import read_ahead_of_wrong
 
 
 def checked_mixed(sizes, ingredients, value):
-    waiting = [(value, 0)]
-    read = 0
-    while len(waiting) > 0:
-        here, deep = waiting.pop()
-        if is_below(here, ingredients) and read < MOST_INGREDIENTS:
-            read += 1
-        elif isinstance(here, tuple) and len(here) in sizes and deep < DEEPEST:
-            for cup in reversed(here):
-                waiting.append((cup, deep + 1))
-        else:
-            raise InvalidRecipe(read)
+    read = read_ahead_of_wrong(sizes, ingredients, value)
+    if read is not None:
+        raise InvalidRecipe(read)
     return value
+
+
+def is_mixed(sizes, ingredients, value):
+    """Whether any value is a mixed recipe."""
+    return read_ahead_of_wrong(sizes, ingredients, value) is None
 
 
 def mixed_shares(ingredients, recipe):
@@ -52,10 +48,7 @@ def is_made_of(number, sizes):
     """Whether each prime divisor of the number divides some size."""
     left = number
     for size in sizes:
-        both = gcd(left, size)
-        while both > 1:
-            left = left // both
-            both = gcd(left, size)
+        left = without_divisors(size, left)
     return left == 1
 
 

@@ -1,7 +1,7 @@
 """Recipes: ingredients, and tuples of recipes."""
 
 from mixlabels.errors import InvalidBowl, InvalidQuestion, InvalidRecipe
-from mixlabels.things import is_below, is_integer, is_tuple
+from mixlabels.things import is_below, is_integer
 
 DEEPEST = 12
 MOST_INGREDIENTS = 2000
@@ -18,26 +18,26 @@ def checked_bowl(value):
 
 
 def is_recipe(k, ingredients, value):
-    return read_ahead_of_wrong(k, ingredients, value) is None
+    return read_ahead_of_wrong((k,), ingredients, value) is None
 
 
 def checked_recipe(k, ingredients, value):
     checked_bowl(k)
-    read = read_ahead_of_wrong(k, ingredients, value)
+    read = read_ahead_of_wrong((k,), ingredients, value)
     if read is not None:
         raise InvalidRecipe(read)
     return value
 
 
-def read_ahead_of_wrong(k, ingredients, value):
-    """How many ingredients stand ahead of the first part that is wrong, or None."""
+def read_ahead_of_wrong(sizes, ingredients, value):
+    """How many ingredients stand ahead of the first part that is wrong, or None; blends have some of these sizes."""
     waiting = [(value, 0)]
     read = 0
     while len(waiting) > 0:
         here, deep = waiting.pop()
         if is_below(here, ingredients) and read < MOST_INGREDIENTS:
             read += 1
-        elif is_tuple(here, k) and deep < DEEPEST:
+        elif isinstance(here, tuple) and len(here) in sizes and deep < DEEPEST:
             for cup in reversed(here):
                 waiting.append((cup, deep + 1))
         else:
